@@ -1,0 +1,1 @@
+"""Anypads: where fields lie on all machines at once."""

@@ -1,0 +1,22 @@
+"""What a name is, and what a whole number is."""
+
+LETTERS = "abcdefghijklmnopqrstuvwxyz"
+LONGEST = 8
+
+# The written forms of terms, claims and trees use these words themselves.
+BARRED = (
+    "byte", "size", "align", "place", "end", "packed",
+    "and", "or", "not", "yes", "no", "for", "nogap", "notail", "leaf",
+)
+
+
+def is_name(value):
+    """Whether any value is a name of a kind, a part, a field or a member."""
+    if not isinstance(value, str) or value in BARRED:
+        return False
+    return 1 <= len(value) <= LONGEST and all([letter in LETTERS for letter in value])
+
+
+def is_whole(value, least, most):
+    """Whether any value is a whole number from the least to the most: True and False are none."""
+    return isinstance(value, int) and not isinstance(value, bool) and least <= value <= most

@@ -1,0 +1,132 @@
+"""The files of the package keep what a script can see of LANGUAGE.md; and the script sees it."""
+
+import os
+import unittest
+
+from tests.language import findings
+
+FOLDER = os.path.join(os.path.dirname(os.path.dirname(os.path.abspath(__file__))), "anypads")
+
+
+def package_files():
+    found = {}
+    for name in sorted(os.listdir(FOLDER)):
+        # Python makes this folder by itself; it is not in a checkout.
+        if name != "__pycache__":
+            with open(os.path.join(FOLDER, name), encoding="utf-8") as file:
+                found[name] = file.read()
+    return found
+
+
+# Each text breaks one rule, in a file of its own.
+BROKEN = [
+    ("L2", "import os\n"), ("L2", "from os import path\n"), ("L2", "from . import words\n"), ("L2", "def f():\n    pass\n\n\nfrom math import gcd\n"),
+    ("L2", "from math import gcd as g\n"), ("L2", "from math import floor\n"), ("L16", "from anypads.words import nothing\n"),
+    ("L3", "A, B = 1, 2\n"), ("L3", "A = len('a')\n"), ("L3", "print\n"), ("L3", "if 1:\n    A = 1\n"), ("L15", "A = 1\nA = 2\n"),
+    ("L4", "def f(x):\n    @x\n    def g():\n        pass\n"), ("L4", "class A:\n    @x\n    def f(self):\n        pass\n"),
+    ("L5", "class A:\n    B = 1 + 1\n"), ("L5", "class A:\n    def __hash__(self):\n        return 1\n"),
+    ("L5", "class A:\n    def __add__(self, other, more):\n        return 1\n"),
+    ("L5", "class A:\n    def __eq__(self, other):\n        self.a = 1\n        return True\n"),
+    ("L5", "class A:\n    def __getitem__(self, at):\n        return 1\n"),
+    ("L5", "class A:\n    pass\n\n\nclass B(A):\n    def __radd__(self, other):\n        return 1\n"),
+    ("L5", "def f(x):\n    return max(x)\n\n\nclass A:\n    def __lt__(self, other):\n        return True\n"),
+    ("L5", "class A:\n    def __str__(self):\n        return str(1 + 1)\n"), ("L5", "def f(x):\n    return x.__len__()\n"),
+    ("L6", "def f():\n    global A\n"), ("L6", "def f(x):\n    x += 1\n"), ("L6", "def f(x):\n    x\n"), ("L6", "def f(\n"),
+    ("L6", "async def f():\n    pass\n"), ("L6", "def f(x):\n    x: int = 1\n"), ("L7", "def f(x):\n    return x / 2\n"),
+    ("L7", "A = 1.5\n"), ("L7", "def f(x):\n    return any(y for y in x)\n"), ("L8", "def f(x):\n    return hash(x)\n"),
+    ("L8", "def f(x):\n    return chr(x)\n"), ("L8", "def f(x):\n    return type(x)\n"),
+    ("L10", "A = 1\n" * 400), ("L10", "A = '" + "a" * 120 + "'\n"), ("L10", "def f():\n" + "    pass\n" * 40), ("L10", "def f():\n\treturn 1\n"),
+    ("L12", "def _cold():\n    pass\n"), ("L12", "A = '_wall'\n"), ("L12", "def f(__a):\n    pass\n"), ("L14", "A = '\u00e9'\n"),
+    ("L15", "def len():\n    pass\n"), ("L15", "def f(id):\n    pass\n"), ("L15", "def f(x):\n    map = x\n"),
+    ("L15", "class A:\n    pass\n\n\ndef f(A):\n    pass\n"), ("L16", "from anypads.broken import f\n\n\ndef g():\n    pass\n"),
+    ("L17", "def f(law):\n    pass\n"), ("L17", "def f(x):\n    return x.elements\n"), ("L17", "A = 'an enum of'\n"), ("L17", "# Meta\n"),
+    ("L18", "class A:\n    def a(self):\n        self.a = 1\n"), ("L18", "class A:\n    def a(self):\n        pass\n\n    def a(self):\n        pass\n"),
+    ("L19", "def f(x):\n    raise x\n"), ("L19", "def f(x):\n    try:\n        pass\n    except Exception:\n        pass\n"),
+    ("L19", "def f(x):\n    try:\n        pass\n    except:\n        pass\n"), ("L20", "def f(x, y):\n    return x is y\n"),
+    ("L21", "def f(x: int):\n    pass\n"), ("L22", "def f(x):\n    return int(x, base=3)\n"), ("L23", "def f(x):\n    y = zip(x, x)\n"),
+    ("L23", "def f(x):\n    return x.items()\n"), ("L23", "def f():\n    yield 1\n\n\nclass A:\n    def f(self):\n        pass\n"),
+    ("L24", "def f(x):\n    y = set(x)\n"), ("L24", "def f(x):\n    for y in {1, 2}:\n        pass\n"), ("L25", "def f(x):\n    x.sort()\n"),
+    ("L25", "def f(x):\n    return x.split(sep='a')\n"), ("L26", "class A:\n    def f(self):\n        self.items = 1\n"),
+    ("L27", "def f(x):\n    return 2 ** x\n"), ("L27", "A = '100%'\n"), ("L27", "A = '\\x41'\n"), ("L27", "A = '__odd__'\n"), ("L27", "def f():\n    return f\"{'a'}\"\n"),
+    ("L28", "class A:\n    def __init__(self):\n        return None\n"), ("L28", "class A:\n    def __len__(self):\n        return self.n\n"),
+    ("L28", "class A:\n    def __str__(self):\n        return self.name\n"),
+]
+
+SOUND = '''"""A file that keeps the rules."""
+
+from anypads.words import is_name
+
+MOST = -8
+PAIRS = ((1, "a"), (2, None))
+
+
+class Box:
+    """A box."""
+
+    SIZE = 4
+
+    def __init__(self, rows=()):
+        self.rows = tuple(rows)
+
+    def __getitem__(self, at):
+        return self.rows[at]
+
+    def __iter__(self):
+        raise TypeError("not iterated over")
+
+    def __lt__(self, other):
+        if not isinstance(other, Box):
+            return NotImplemented
+        return len(self.rows) < len(other.rows)
+
+    def __str__(self):
+        return " ".join([f"{k}:{row}" for k, row in enumerate(self.rows)])
+
+    @staticmethod
+    def made(thing):
+        try:
+            Box(thing)
+        except KeyError:
+            return False
+        return is_name(thing) is not None and max([int(row) for row in thing], default=0) ** 2 > MOST
+
+    def walked(self):
+        for row in self.rows:
+            yield row
+'''
+
+
+class Language(unittest.TestCase):
+    def test_the_package_keeps_the_rules(self):
+        self.assertEqual(findings(package_files()), [])
+
+    def test_the_package_holds_python_files_alone(self):
+        names = [name for name in os.listdir(FOLDER) if name != "__pycache__"]
+        self.assertTrue(all(name.endswith(".py") for name in names))
+        self.assertIn("__init__.py", names)
+        self.assertLessEqual(len(names), 100)
+
+    def test_a_sound_file(self):
+        self.assertEqual(findings({"words.py": "def is_name(value):\n    return True\n", "sound.py": SOUND}), [])
+
+    def test_each_broken_rule_is_found(self):
+        for rule, text in BROKEN:
+            found = findings({"words.py": "def is_name(value):\n    return True\n", "broken.py": text})
+            self.assertTrue(any(f" {rule} " in finding for finding in found), (rule, text, found))
+
+    def test_names_of_files(self):
+        for name in ("Upper.py", "data.txt", "test_a.py", "len.py", "law_a.py", "a-b.py"):
+            self.assertTrue(findings({name: ""}), name)
+
+    def test_the_greatest_sizes(self):
+        for text in ("# " + "a" * 118 + "\n", "# a\n" * 399, "def f():\n" + "    pass\n" * 39):
+            self.assertEqual(findings({"a.py": text}), [])
+
+    def test_imports_in_a_ring(self):
+        one = "from anypads.b import g\n\n\ndef f():\n    pass\n"
+        other = "from anypads.a import f\n\n\ndef g():\n    pass\n"
+        self.assertEqual(len([finding for finding in findings({"a.py": one, "b.py": other}) if "L16" in finding]), 2)
+
+
+if __name__ == "__main__":
+    unittest.main()
