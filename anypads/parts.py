@@ -136,7 +136,7 @@ class Row(Group):
             raise BadParts(0)
         if not is_whole(n, 1, Row.MOST):
             raise BadTimes(n)
-        Part.__init__(self, (part, n), tuple([(str(k), part) for k in range(n)]))
+        Group.__init__(self, (part, n), tuple([(str(k), part) for k in range(n)]))
         self.part = part
         self.n = n
 
@@ -151,7 +151,7 @@ class Record(Group):
 
     def __init__(self, fields):
         pairs = checked_pairs(fields, Record.MOST)
-        Part.__init__(self, pairs, pairs)
+        Group.__init__(self, pairs, pairs)
         self.fields = pairs
 
     def __add__(self, other):
@@ -170,7 +170,7 @@ class Overlay(Group, Spread):
 
     def __init__(self, members):
         pairs = checked_pairs(members, Overlay.MOST)
-        Part.__init__(self, pairs, pairs)
+        Group.__init__(self, pairs, pairs)
         self.members = pairs
 
     def __or__(self, other):

@@ -307,6 +307,20 @@ class Look:
         self.say_if(isinstance(node.ctx, ast.Store) and node.attr in ATTRIBUTES, node, f"L26 {node.attr}")
         named = node.attr.startswith("__") and node.attr not in ("__init__", "__class__", "__name__")
         self.say_if(named, node, f"L5 {node.attr} by its name")
+        if node.attr == "__init__":
+            self.look_at_base_init(node)
+
+    def look_at_base_init(self, node):
+        """`X.__init__(self, ..)` is a call, directly in an `__init__`, of the first base in the class's own line."""
+        call, method = self.parents[node], self.parents[node]
+        while not isinstance(method, (ast.FunctionDef, ast.Lambda, ast.Module)):
+            method = self.parents[method]
+        shape = self.parents.get(method)
+        fine = isinstance(shape, ast.ClassDef) and method.name == "__init__"
+        fine = fine and [ast.unparse(base) for base in shape.bases[:1]] == [ast.unparse(node.value)]
+        fine = fine and isinstance(call, ast.Call) and call.func is node
+        fine = fine and [ast.unparse(told) for told in call.args[:1]] == [told.arg for told in method.args.args[:1]]
+        self.say_if(not fine, node, "L28 __init__ of what is not the first base in the class line")
 
     def at_Compare(self, node):
         for op, right in zip(node.ops, node.comparators):

@@ -18,6 +18,8 @@ def package_files():
     return found
 
 
+FAMILY = "class A:\n    def __init__(self):\n        pass\n\n\nclass B:\n    pass\n\n\nclass C(A):\n    pass\n\n\n"
+
 # Each text breaks one rule, in a file of its own.
 BROKEN = [
     ("L2", "import os\n"), ("L2", "from os import path\n"), ("L2", "from . import words\n"), ("L2", "def f():\n    pass\n\n\nfrom math import gcd\n"),
@@ -50,6 +52,13 @@ BROKEN = [
     ("L27", "def f(x):\n    return 2 ** x\n"), ("L27", "A = '100%'\n"), ("L27", "A = '\\x41'\n"), ("L27", "A = '__odd__'\n"), ("L27", "def f():\n    return f\"{'a'}\"\n"),
     ("L28", "class A:\n    def __init__(self):\n        return None\n"), ("L28", "class A:\n    def __len__(self):\n        return self.n\n"),
     ("L28", "class A:\n    def __str__(self):\n        return self.name\n"),
+    ("L28", FAMILY + "class D(C):\n    def __init__(self):\n        A.__init__(self)\n"),
+    ("L28", FAMILY + "class D(C, B):\n    def __init__(self):\n        B.__init__(self)\n"),
+    ("L28", FAMILY + "class D(C):\n    def __init__(self, other):\n        C.__init__(other)\n"),
+    ("L28", FAMILY + "class D(C):\n    def __init__(self):\n        super().__init__()\n"),
+    ("L28", FAMILY + "class D(C):\n    def again(self):\n        C.__init__(self)\n"),
+    ("L28", FAMILY + "class D(C):\n    def __init__(self):\n        self.made = C.__init__\n"),
+    ("L28", FAMILY + "def again(it):\n    A.__init__(it)\n"),
 ]
 
 SOUND = '''"""A file that keeps the rules."""
@@ -93,6 +102,18 @@ class Box:
     def walked(self):
         for row in self.rows:
             yield row
+
+
+class Crate(Box):
+    """A box that stands below another one."""
+
+
+class Chest(Crate):
+    """A box two steps below another one."""
+
+    def __init__(self, rows):
+        Crate.__init__(self, rows)
+        self.shut = False
 '''
 
 
