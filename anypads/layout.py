@@ -4,7 +4,7 @@ All functions but the first and the last take parts without uses, of kinds of th
 """
 
 from anypads.errors import NoScale
-from anypads.parts import Byte, Kind, Overlay, Record, Row, need_resolved
+from anypads.parts import Byte, Kind, Overlay, Record, Row, need_path, need_resolved
 
 
 def need_kinds(part, kinds):
@@ -42,6 +42,11 @@ def size_on(machine, part):
     return raised_to(last_end(machine, part), align_on(machine, part))
 
 
+def packed_on(machine, record):
+    """The sum of the sizes of a record's fields, rounded up to its alignment."""
+    return raised_to(sum([size_on(machine, inner) for name, inner in record.fields]), align_on(machine, record))
+
+
 def last_end(machine, group):
     """Where the last field of a record ends, or the greatest member of an overlay."""
     if isinstance(group, Overlay):
@@ -72,7 +77,7 @@ def step_place(machine, part, step):
 def reached(machine, part, path):
     """The place of a path in any part, and the part there; raises what Machine.place raises."""
     need_kinds(part, machine.kinds)
-    goal = part[path]
+    goal = need_path(part, path)
     place = 0
     for step in path.split("."):
         place = place + step_place(machine, part, step)

@@ -2,7 +2,7 @@
 
 from anypads.errors import NoMachine, NoScale, PadError
 from anypads.layout import align_on, need_kinds, reached, size_on
-from anypads.scales import checked_kinds, scales_of
+from anypads.scales import checked_kinds, need_alike, scales_of
 from anypads.words import is_whole
 
 
@@ -147,12 +147,6 @@ def checked_pair(name, pair):
 def numbered(kinds, numbers):
     """The machine with these exponents, in the order of the scales."""
     return Machine(kinds, {kind.name: (s, a) for kind, s, a in zip(kinds, numbers[0::2], numbers[1::2])})
-
-
-def need_alike(one, other):
-    """Raises NoScale(None) if the kinds of two machines are not the same, in the same order."""
-    if one.kinds != other.kinds:
-        raise NoScale(None)
 
 
 def rank(machine):

@@ -32,10 +32,7 @@ class Part:
         return Row(self, other)
 
     def __getitem__(self, at):
-        found, lost = led(self, at, True)
-        if found is None:
-            raise NoPath(at, lost)
-        return found
+        return need_path(self, at)
 
     def __contains__(self, x):
         return led(self, x, True)[0] is not None
@@ -224,6 +221,14 @@ def led(part, path, rows):
         if part is None:
             return None, at
     return part, None
+
+
+def need_path(part, path):
+    """The part to which any value leads as a path; raises NoPath if it leads to none."""
+    found, lost = led(part, path, True)
+    if found is None:
+        raise NoPath(path, lost)
+    return found
 
 
 def with_other(part, steps, other):

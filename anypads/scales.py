@@ -1,9 +1,11 @@
-"""The kinds that a machine has, and the texts of their scales."""
+"""The kinds that a machine, a zone or a book has, and the texts of their scales."""
 
-from anypads.errors import BadParts, Taken
+from anypads.errors import BadParts, NoScale, Taken
 from anypads.parts import Kind
+from anypads.words import is_name
 
 MOST_KINDS = 3
+BYTE = "byte"
 
 
 def checked_kinds(kinds):
@@ -24,3 +26,17 @@ def checked_kinds(kinds):
 def scales_of(kinds):
     """The tuple of the texts of the kinds' scales, in their order."""
     return tuple([f"{word} {kind.name}" for kind in kinds for word in ("size", "align")])
+
+
+def is_scale(value):
+    """Whether any value is the text of a scale, of whatever kind."""
+    if not isinstance(value, str):
+        return False
+    word, _, name = value.partition(" ")
+    return value == BYTE or word in ("size", "align") and is_name(name)
+
+
+def need_alike(one, other):
+    """Raises NoScale(None) if two machines or zones have not the same kinds, in the same order."""
+    if one.kinds != other.kinds:
+        raise NoScale(None)

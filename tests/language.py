@@ -61,6 +61,9 @@ ATTRIBUTES = set(
 )
 FILES = re.compile(r"law_.*|tests?|testing|test_.*|site|conftest|sitecustomize|usercustomize")
 CAUGHT = {"KeyError", "ZeroDivisionError", "StopIteration"}
+CHANGES = {"append", "clear", "extend", "insert", "pop", "remove", "reverse", "setdefault", "update"}
+# Read off a book, which the document tells ahead of its class.
+TOLD = {"facts"}
 STATEMENTS = (
     ast.Assign, ast.If, ast.While, ast.For, ast.Return, ast.Break, ast.Continue, ast.Pass, ast.Raise, ast.Assert,
     ast.Delete, ast.Nonlocal, ast.Match, ast.With, ast.Try, ast.Expr, ast.FunctionDef, ast.ClassDef, ast.ImportFrom,
@@ -114,11 +117,14 @@ class Package:
         self.found = []
         self.defined = {name: defined_in(tree) for name, tree in trees.items()}
         self.reads = {name: read_by(tree) for name, tree in trees.items()}
-        self.classes, self.places, self.methods, self.attributes = {}, {}, {}, {}
+        self.classes, self.places, self.methods, self.attributes, self.values = {}, {}, {}, {}, {}
         for name, tree in trees.items():
             for node in [node for node in ast.walk(tree) if isinstance(node, ast.ClassDef)]:
                 self.add(name, node)
         self.every_method = {method for methods in self.methods.values() for method in methods}
+        self.every_attribute = {name for names in self.attributes.values() for name in names}
+        self.every_value = {name for names in self.values.values() for name in names}
+        self.generators = {node.name for tree in trees.values() for node in ast.walk(tree) if yields(node)}
         for word in self.classes:
             self.look_at_class(word)
         for name in trees:
@@ -130,6 +136,9 @@ class Package:
         self.classes[node.name] = [base.id for base in node.bases if isinstance(base, ast.Name)]
         self.places[node.name] = f"{name}:{node.lineno}"
         self.methods[node.name] = [item.name for item in node.body if isinstance(item, ast.FunctionDef)]
+        self.values[node.name] = [
+            target.id for item in node.body if isinstance(item, ast.Assign) for target in item.targets if isinstance(target, ast.Name)
+        ]
         self.attributes[node.name] = {
             inner.attr for inner in ast.walk(node) if isinstance(inner, ast.Attribute) and isinstance(inner.ctx, ast.Store)
         }
@@ -144,6 +153,7 @@ class Package:
         related = len(family) > 1 or any(word in bases for bases in self.classes.values())
         told = {
             "L18 a method and an attribute": any(self.attributes[other] & methods for other in family),
+            "L5 a class value that is an attribute or a method": bool(set(self.values[word]) & (self.every_attribute | self.every_method)),
             "L18 a method twice": len(self.methods[word]) != len(set(self.methods[word])),
             "L5 __getitem__ without __iter__": "__getitem__" in methods and "__iter__" not in methods,
             "L5 reflected in a family": related and bool(methods & REFLECTED),
@@ -167,9 +177,16 @@ class Package:
         ]
         words = [node.name for _, node in functions]
         for name, node in functions:
-            yields = any(isinstance(inner, (ast.Yield, ast.YieldFrom)) for inner in ast.walk(node))
-            if yields and (words.count(node.name) > 1 or node.name.startswith("__")):
+            wrong = words.count(node.name) > 1 or node.name.startswith("__") or node.name in METHODS
+            if yields(node) and wrong:
                 self.found.append(f"{name}:{node.lineno} L23 name of a generator")
+
+
+def yields(node):
+    """Whether a node is a generator."""
+    if not isinstance(node, ast.FunctionDef):
+        return False
+    return any(isinstance(inner, (ast.Yield, ast.YieldFrom)) for inner in ast.walk(node))
 
 
 def defined_in(tree):
@@ -277,6 +294,10 @@ class Look:
             wrong = not isinstance(node.body[-1], ast.Return) or not all(is_told(node.name, told.value) for told in returns)
             self.say_if(wrong, node, f"L28 return of {node.name}")
             self.say_if(any(isinstance(inner, ast.Add) for inner in ast.walk(node)), node, f"L5 sum in {node.name}")
+        if node.name == "__bool__":
+            self.say_if(not is_truth(node.body[-1]), node, "L5 return of __bool__")
+        if node.name == "__iter__":
+            self.say_if(not isinstance(node.body[-1], ast.Raise) or len(node.body) != 1, node, "L5 __iter__")
         if node.name in PURE:
             for inner in ast.walk(node):
                 stored = isinstance(inner, ast.Attribute) and isinstance(inner.ctx, ast.Store)
@@ -297,6 +318,17 @@ class Look:
         fine = isinstance(node.value, (ast.Call, ast.Yield, ast.YieldFrom)) or node.value in self.docstrings
         self.say_if(not fine, node, "L6 expression on its own")
 
+    def at_For(self, node):
+        """The name that a loop goes over, if it is one, is not changed in it."""
+        if not isinstance(node.iter, ast.Name):
+            return
+        for inner in [inner for item in node.body for inner in ast.walk(item)]:
+            called = isinstance(inner, ast.Call) and isinstance(inner.func, ast.Attribute) and inner.func.attr in CHANGES
+            stored = isinstance(inner, ast.Subscript) and not isinstance(inner.ctx, ast.Load)
+            thing = inner.func.value if called else inner.value if stored else None
+            changed = isinstance(thing, ast.Name) and thing.id == node.iter.id
+            self.say_if(changed, inner, f"L23 {node.iter.id} is changed in its loop")
+
     # Expressions.
 
     def at_Name(self, node):
@@ -305,6 +337,10 @@ class Look:
 
     def at_Attribute(self, node):
         self.say_if(isinstance(node.ctx, ast.Store) and node.attr in ATTRIBUTES, node, f"L26 {node.attr}")
+        package = self.package
+        known = METHODS | TOLD | package.every_attribute | package.every_method | package.every_value
+        unknown = isinstance(node.ctx, ast.Load) and not node.attr.startswith("__") and node.attr not in known
+        self.say_if(unknown, node, f"L18 {node.attr} is no attribute")
         named = node.attr.startswith("__") and node.attr not in ("__init__", "__class__", "__name__")
         self.say_if(named, node, f"L5 {node.attr} by its name")
         if node.attr == "__init__":
@@ -343,7 +379,20 @@ class Look:
     def at_SetComp(self, node):
         self.at_Set(node)
 
+    def at_Starred(self, node):
+        off_name = isinstance(node.value, ast.Attribute) and isinstance(node.value.value, ast.Name)
+        plain = off_name or isinstance(node.value, (ast.Name, ast.List, ast.Tuple))
+        self.say_if(isinstance(self.parents[node], ast.Call) and not plain, node, "L7 what stands behind a star")
+
+    def look_at_generator(self, node, word):
+        self.say_if(not self.is_iterated(node), node, f"L23 {word} is not iterated at once")
+        plain = all(isinstance(told, (ast.Name, ast.Attribute, ast.Constant, ast.Tuple)) for told in node.args)
+        self.say_if(not plain or node.keywords, node, f"L23 what stands beside {word}")
+
     def at_Call(self, node):
+        word = node.func.id if isinstance(node.func, ast.Name) else getattr(node.func, "attr", None)
+        if word in self.package.generators:
+            self.look_at_generator(node, word)
         if isinstance(node.func, ast.Name):
             self.look_at_call(node, node.func.id)
         elif isinstance(node.func, ast.Attribute):
@@ -368,7 +417,7 @@ class Look:
         parent = self.parents[node]
         if isinstance(parent, ast.Call):
             return isinstance(parent.func, ast.Name) and parent.func.id in TAKERS
-        return isinstance(parent, (ast.For, ast.comprehension)) and parent.iter is node
+        return isinstance(parent, ast.YieldFrom) or isinstance(parent, (ast.For, ast.comprehension)) and parent.iter is node
 
     def at_Constant(self, node):
         self.say_if(isinstance(node.value, (float, complex)) or node.value is Ellipsis, node, "L7 value")
@@ -429,6 +478,19 @@ def is_told(name, value):
         return value.func.attr == "join" and isinstance(value.func.value, ast.Constant)
     text = isinstance(value, ast.Constant) and isinstance(value.value, str)
     return word in ("str", "repr") or text or isinstance(value, ast.JoinedStr)
+
+
+def is_truth(node):
+    """Whether a statement may end __bool__."""
+    if not isinstance(node, ast.Return):
+        return False
+    value = node.value
+    if isinstance(value, ast.Call):
+        return isinstance(value.func, ast.Name) and value.func.id in ("bool", "isinstance", "any", "all")
+    if isinstance(value, ast.Compare):
+        return all(isinstance(op, (ast.Is, ast.IsNot, ast.In, ast.NotIn)) for op in value.ops)
+    negated = isinstance(value, ast.UnaryOp) and isinstance(value.op, ast.Not)
+    return negated or isinstance(value, ast.Constant) and isinstance(value.value, bool)
 
 
 def docstring_of(node):

@@ -6,13 +6,45 @@ import inspect
 import os
 import unittest
 
+from anypads.claims import Claim
+from anypads.forms import Form
 from anypads.machines import Machine
-from anypads.parts import Byte, Kind, Overlay, Record, Row, Use
+from anypads.parts import Byte, Kind, Overlay, Part, Record, Row, Spread, Use
+from anypads.terms import Term
+from anypads.trees import LEAF, leaves
+from anypads.zones import Zone
 from tests.values import FIELDS
 
 ROOT = os.path.dirname(os.path.dirname(os.path.abspath(__file__)))
 
-FUNCTIONS = {"anypads.parts": {"units": ["part"]}}
+FUNCTIONS = {
+    "anypads.parts": {"units": ["part"]},
+    "anypads.images": {
+        "image": ["machine", "part", "value"], "number_at": ["machine", "part", "shown", "path"],
+        "patched": ["machine", "part", "shown", "path", "number"],
+    },
+    "anypads.settle": {
+        "rounded": ["zone", "form", "scale"], "form_at_most": ["zone", "one", "other"], "form_same": ["zone", "one", "other"],
+        "greatest_form": ["zone", "forms"], "greatest_scale": ["zone", "scales"], "align_scale": ["zone", "part"],
+        "size_form": ["zone", "part"], "place_form": ["zone", "part", "path"], "end_form": ["zone", "part", "path"],
+        "packed_form": ["zone", "record"],
+    },
+    "anypads.terms": {
+        "number": ["n"], "size": ["name"], "align": ["name"], "packed": ["name"], "place": ["name", "path"],
+        "end": ["name", "path"], "units_of": ["book", "term"], "value": ["book", "term", "machine"],
+        "form_in": ["book", "term", "zone"],
+    },
+    "anypads.claims": {
+        "at_most": ["one", "other"], "less": ["one", "other"], "same": ["one", "other"], "yes": [], "no": [],
+        "no_gap": ["name", "path"], "no_tail": ["name"], "least_order": ["name"], "stands_in": ["one", "other"],
+        "plain": ["book", "claim"], "holds": ["book", "claim", "machine"], "told": ["book", "claim", "zone"],
+        "reach": ["book", "*claims"],
+    },
+    "anypads.trees": {
+        "ask": ["i", "j", "c", "yes", "no"], "leaves": ["book", "tree"], "leaf_of": ["book", "tree", "machine"],
+        "size_of": ["tree"], "depth_of": ["tree"], "grafted": ["tree", "other"], "called": ["tree", "names"],
+    },
+}
 # The methods of each class, with their parameters behind `self`.
 CLASSES = {
     "anypads.errors": {name: {"__init__": list(fields)} for name, fields in FIELDS.items()},
@@ -38,7 +70,32 @@ CLASSES = {
             "place": ["part", "path"], "end": ["part", "path"],
         },
     },
+    "anypads.zones": {
+        "Zone": {
+            "__init__": ["*kinds"], "__getitem__": None, "__bool__": [], "__contains__": None, "__and__": None, "__iand__": None,
+            "__le__": None, "__eq__": None, "__str__": [], "within": ["i", "j", "c"], "sides": ["i", "j", "c"], "least": [],
+            "greatest": [], "bounds": [], "ring": [], "is_ring": ["thing"], "walk": ["most"],
+        },
+    },
+    "anypads.forms": {
+        "Form": {
+            "__init__": ["numbers"], "__getitem__": None, "__add__": None, "__mul__": None, "__rmul__": None, "__eq__": None,
+            "__bool__": [], "__abs__": [], "__call__": ["machine"], "__str__": [],
+        },
+    },
+    "anypads.terms": {"Term": {"__add__": None, "__mul__": None, "__rmul__": None, "__eq__": None, "__str__": [], "named": []}},
+    "anypads.claims": {
+        "Claim": {"__and__": None, "__or__": None, "__invert__": None, "__eq__": None, "__str__": [], "named": []},
+    },
 }
+# Static methods and class methods.
+OFF_CLASSES = [
+    (Machine, "is_machine", staticmethod, ["kinds", "exponents"]), (Zone, "of", classmethod, ["cls", "kinds"]),
+    (Form, "of", staticmethod, ["scale", "number"]), (Claim, "is_claim", staticmethod, ["thing"]),
+]
+CLASS_VALUES = [(Part, "DEPTH", 4), (Spread, "AT", 0), (Row, "MOST", 64), (Record, "MOST", 8), (Overlay, "MOST", 4),
+                (Machine, "MOST", 1000), (Zone, "MOST", 2000), (Term, "MOST", 64)]
+GENERATORS = [Part.paths, Zone.bounds, Zone.walk, leaves]
 ATTRIBUTES = [
     (Kind("i"), {"name": str, "times": int, "depth": int}),
     (Byte(), {"depth": int}),
@@ -47,6 +104,10 @@ ATTRIBUTES = [
     (Record([("a", Byte())]), {"fields": tuple, "depth": int}),
     (Overlay([("a", Byte())]), {"members": tuple, "depth": int}),
     (Machine([Kind("i")], {"i": (1, 0)}), {"kinds": tuple, "scales": tuple}),
+    (Zone(Kind("i")), {"kinds": tuple, "scales": tuple}),
+    (Zone(Kind("i")).within("byte", "byte", -1), {"kinds": tuple, "scales": tuple}),
+    (Form({"byte": 1}), {"scales": tuple}),
+    (2 * Form({}) + Form({}), {"scales": tuple}),
 ]
 
 
@@ -58,13 +119,19 @@ def written(module):
     return {node.name: node for node in body if isinstance(node, (ast.FunctionDef, ast.ClassDef))}
 
 
+def arguments(function):
+    """The names of the parameters, with a star ahead of one that takes all the others."""
+    told = inspect.signature(function).parameters.values()
+    return [("*" if one.kind is one.VAR_POSITIONAL else "") + one.name for one in told]
+
+
 class Interface(unittest.TestCase):
     def test_functions(self):
         for module, functions in FUNCTIONS.items():
             for name, parameters in functions.items():
                 self.assertIsInstance(written(module)[name], ast.FunctionDef)
                 function = getattr(importlib.import_module(module), name)
-                self.assertEqual(list(inspect.signature(function).parameters), parameters)
+                self.assertEqual(arguments(function), parameters)
 
     def test_classes_and_their_own_methods(self):
         for module, classes in CLASSES.items():
@@ -74,13 +141,25 @@ class Interface(unittest.TestCase):
                 for method, parameters in methods.items():
                     self.assertIn(method, found, name)
                     if parameters is not None:
-                        told = list(inspect.signature(found[method]).parameters)
-                        self.assertEqual(told, ["self"] + parameters, (name, method))
+                        self.assertEqual(arguments(found[method]), ["self"] + parameters, (name, method))
 
-    def test_static_methods(self):
-        found = vars(Machine)["is_machine"]
-        self.assertIsInstance(found, staticmethod)
-        self.assertEqual(list(inspect.signature(found.__func__).parameters), ["kinds", "exponents"])
+    def test_static_and_class_methods(self):
+        for thing, name, shape, parameters in OFF_CLASSES:
+            self.assertIsInstance(vars(thing)[name], shape)
+            self.assertEqual(arguments(vars(thing)[name].__func__), parameters)
+
+    def test_values(self):
+        for thing, name, expected in CLASS_VALUES:
+            self.assertEqual(vars(thing)[name], expected)
+        self.assertEqual(LEAF, ("leaf",))
+
+    def test_defaults(self):
+        self.assertEqual(inspect.signature(Kind).parameters["times"].default, 1)
+        self.assertEqual(inspect.signature(Form.of).parameters["number"].default, 1)
+
+    def test_generators(self):
+        for function in GENERATORS:
+            self.assertTrue(inspect.isgeneratorfunction(function))
 
     def test_attributes(self):
         for thing, attributes in ATTRIBUTES:

@@ -20,6 +20,8 @@ def package_files():
 
 FAMILY = "class A:\n    def __init__(self):\n        pass\n\n\nclass B:\n    pass\n\n\nclass C(A):\n    pass\n\n\n"
 
+GENERATOR = "def f(x):\n    yield x\n\n\n"
+
 # Each text breaks one rule, in a file of its own.
 BROKEN = [
     ("L2", "import os\n"), ("L2", "from os import path\n"), ("L2", "from . import words\n"), ("L2", "def f():\n    pass\n\n\nfrom math import gcd\n"),
@@ -52,6 +54,18 @@ BROKEN = [
     ("L27", "def f(x):\n    return 2 ** x\n"), ("L27", "A = '100%'\n"), ("L27", "A = '\\x41'\n"), ("L27", "A = '__odd__'\n"), ("L27", "def f():\n    return f\"{'a'}\"\n"),
     ("L28", "class A:\n    def __init__(self):\n        return None\n"), ("L28", "class A:\n    def __len__(self):\n        return self.n\n"),
     ("L28", "class A:\n    def __str__(self):\n        return self.name\n"),
+    ("L5", "class A:\n    def __bool__(self):\n        return len(self.rows) > 0\n"),
+    ("L5", "class A:\n    def __bool__(self):\n        return self.rows\n"),
+    ("L5", "class A:\n    def __iter__(self):\n        rows = [1]\n        return iter(rows)\n"),
+    ("L5", "class A:\n    MOST = 1\n\n    def MOST(self):\n        pass\n"),
+    ("L5", "class A:\n    MOST = 1\n\n\nclass B:\n    def __init__(self):\n        self.MOST = 1\n"),
+    ("L7", "def f(x):\n    return f(*x.parts())\n\n\nclass A:\n    def parts(self):\n        pass\n"), ("L7", "def f(x):\n    return f(*f(x))\n"),
+    ("L18", "def f(x):\n    return x.lost\n"), ("L18", "def f(x):\n    x.made = 1\n    return x.made\n"),
+    ("L23", GENERATOR + "def g():\n    rows = f(1)\n"), ("L23", GENERATOR + "def g():\n    return f(1)\n"),
+    ("L23", GENERATOR + "def g():\n    return [x for x in f(1 + 1)]\n"), ("L23", GENERATOR + "def g():\n    return len(f(1))\n"),
+    ("L23", "class A:\n    def split(self):\n        yield 1\n"),
+    ("L23", "def f(xs):\n    for x in xs:\n        xs.append(x)\n"), ("L23", "def f(xs):\n    for x in xs:\n        xs[x] = 1\n"),
+    ("L23", "def f(xs):\n    for x in xs:\n        del xs[x]\n"),
     ("L28", FAMILY + "class D(C):\n    def __init__(self):\n        A.__init__(self)\n"),
     ("L28", FAMILY + "class D(C, B):\n    def __init__(self):\n        B.__init__(self)\n"),
     ("L28", FAMILY + "class D(C):\n    def __init__(self, other):\n        C.__init__(other)\n"),
@@ -102,6 +116,15 @@ class Box:
     def walked(self):
         for row in self.rows:
             yield row
+
+    def __bool__(self):
+        return bool(self.rows)
+
+    def twice(self):
+        found = []
+        for row in self.walked():
+            found.append(row)
+        return Box(*found) if found else [row for row in self.walked() if row == Box.SIZE]
 
 
 class Crate(Box):

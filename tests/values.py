@@ -1,8 +1,12 @@
 """Values of all sorts to pass where any value is accepted, and how to tell what a call raised."""
 
+from anypads.claims import no_tail, same as same_claim, yes
 from anypads.errors import BadName, PadError
+from anypads.forms import Form
 from anypads.machines import Machine
 from anypads.parts import Byte, Kind, Overlay, Record, Row, Use
+from anypads.terms import number, size
+from anypads.zones import Zone
 
 
 def nested(depth):
@@ -22,7 +26,11 @@ PARTS = [
     Record([("a", Byte())]),
     Overlay([("a", Byte())]),
 ]
-OBJECTS = PARTS + [Machine([Kind("any")], {"any": (3, 1)}), BadName("any")]
+TERMS = [number(1), 2 * size("any") + number(3)]
+CLAIMS = [yes(), ~no_tail("any"), same_claim(size("any"), number(1))]
+ZONES = [Zone(Kind("any")), Zone(Kind("any")).within("byte", "size any", -1).within("size any", "byte", 0)]
+FORMS = [Form({}), Form({"size any": 1})]
+OBJECTS = PARTS + TERMS + CLAIMS + ZONES + FORMS + [Machine([Kind("any")], {"any": (3, 1)}), BadName("any")]
 NUMBERS = [0, 1, 2, 8, -1, 1000, 1001, GREAT, -GREAT]
 TEXTS = ["", " ", "a", "Any", "a.b", "0", "00", "byte", "size any", "a" * 2000, "~"]
 SHAPES = [
@@ -70,6 +78,11 @@ def raised_by(call, *args, **more):
 
 def is_whole(value, least, most):
     return type(value) is int and least <= value <= most
+
+
+def is_text_of(value, texts):
+    """Whether any value is one of these texts."""
+    return isinstance(value, str) and value in texts
 
 
 def same(one, other):
