@@ -91,10 +91,7 @@ def least_sign(zone, one, other):
 
 def tied(zone, one, other):
     """The numbers of the one form less those of the other, without zeros, those of tied scales put together."""
-    numbers = {}
-    for scale in one.scales + other.scales:
-        if scale not in numbers:
-            numbers[scale] = one.numbers.get(scale, 0) - other.numbers.get(scale, 0)
+    numbers = {scale: one[scale] - other[scale] for scale in one.scales + other.scales}
     joined = {}
     for scale in numbers:
         first = first_tied(zone, scale)

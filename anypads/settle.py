@@ -80,7 +80,7 @@ def packed_form(zone, record):
 
 def need_settled(zone, scales):
     """Raises NoScale with the least of the scales that the zone lacks, if there is one; Barred if the zone is empty."""
-    for scale in sorted([str(scale) for scale in scales]):
+    for scale in sorted([str(each) for each in scales]):
         if scale not in zone.order:
             raise NoScale(scale)
     need_points(zone)

@@ -127,6 +127,11 @@ class Numbers(unittest.TestCase):
                 self.assertEqual(raised_by(patched, MACHINE, WHOLE, SHOWN, value, 1), expected)
         self.assertEqual(raised_by(number_at, MACHINE, SHORT, [0, 0], "x"), ("NoPath", "x", 0))
 
+    def test_numbers_that_are_too_great_by_one(self):
+        for path, size in (("a", 1), ("rows.1.y", 2), ("view.pair.y", 2), ("view.raw.2", 1), ("n", 12)):
+            self.assertEqual(raised_by(patched, MACHINE, WHOLE, SHOWN, path, 256 ** size), ("BadValue", path))
+            self.assertIsNone(raised_by(patched, MACHINE, WHOLE, SHOWN, path, 256 ** size - 1))
+
     def test_any_number(self):
         for value in ANY:
             expected = None if is_whole(value, 0, 65535) else ("BadValue", "rows.0.y")
