@@ -7,7 +7,6 @@ from anypads.words import is_whole
 from anypads.zones import Zone
 
 LEAF = ("leaf",)
-MOST = 2000
 
 
 def ask(i, j, c, yes, no):
@@ -16,7 +15,7 @@ def ask(i, j, c, yes, no):
         raise NoScale(i)
     if not is_scale(j) or j == i:
         raise NoScale(j)
-    if not is_whole(c, -MOST, MOST):
+    if not is_whole(c, -Zone.MOST, Zone.MOST):
         raise BadBound(c)
     return ("ask", i, j, c, yes, no)
 
