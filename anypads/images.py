@@ -1,7 +1,7 @@
 """Images: the bytes of a part on a machine, made of values, read and changed."""
 
 from anypads.errors import BadValue, TooLarge
-from anypads.layout import field_places, reached, size_on
+from anypads.layout import Layout, hops_to, need_place, place_on, size_on, starts_on
 from anypads.parts import Byte, Kind, Record, Row
 from anypads.words import is_whole
 
@@ -11,7 +11,7 @@ MOST_BYTES = 4096
 def image(machine, part, value):
     """The image of a part that has this value."""
     need_small(machine, part)
-    return bytes_of(machine, part, value, "")
+    return bytes_of(Layout(machine), part, value, "")
 
 
 def number_at(machine, part, shown, path):
@@ -39,12 +39,14 @@ def need_small(machine, part):
 def number_span(machine, part, shown, path):
     """The place and the end of the number at a path in an image; raises what number_at raises."""
     size = need_small(machine, part)
-    place, goal = reached(machine, part, path)
+    goal = need_place(part, machine.kinds, path)
     if not isinstance(goal, (Kind, Byte)):
         raise BadValue(path)
     if not is_image(shown, size):
         raise BadValue("")
-    return place, place + size_on(machine, goal)
+    laid = Layout(machine)
+    place = place_on(laid, hops_to(part, path))
+    return place, place + size_on(laid, goal)
 
 
 def is_image(value, size):
@@ -62,22 +64,22 @@ def number_bytes(number, size):
     return [(number >> (8 * k)) & 255 for k in range(size)]
 
 
-def bytes_of(machine, part, value, path):
+def bytes_of(laid, part, value, path):
     """The bytes of a part at a path, with this value; raises BadValue for the first part with a wrong value."""
-    if not fits(machine, part, value):
+    if not fits(laid, part, value):
         raise BadValue(path)
     if isinstance(part, Row):
-        return row_bytes(machine, part, value, path)
+        return row_bytes(laid, part, value, path)
     if isinstance(part, Record):
-        return record_bytes(machine, part, value, path)
+        return record_bytes(laid, part, value, path)
     if isinstance(part, (Kind, Byte)):
-        return number_bytes(value, size_on(machine, part))
+        return number_bytes(value, size_on(laid, part))
     member, worth = value
-    shown = bytes_of(machine, part[member], worth, joined(path, member))
-    return filled_up(shown, size_on(machine, part))
+    shown = bytes_of(laid, part[member], worth, joined(path, member))
+    return filled_up(shown, size_on(laid, part))
 
 
-def fits(machine, part, value):
+def fits(laid, part, value):
     """Whether any value is of the kind that belongs to a part; what stands within it is not looked at."""
     if isinstance(part, Row):
         return isinstance(value, list) and len(value) == part.n
@@ -86,28 +88,27 @@ def fits(machine, part, value):
             return False
         return all([name in value for name, inner in part.fields])
     if isinstance(part, (Kind, Byte)):
-        return is_number_of(value, size_on(machine, part))
+        return is_number_of(value, size_on(laid, part))
     if not isinstance(value, tuple) or len(value) != 2:
         return False
     return value[0] in [name for name, inner in part.members]
 
 
-def row_bytes(machine, row, values, path):
+def row_bytes(laid, row, values, path):
     """The bytes of a row."""
     shown = []
     for k, value in enumerate(values):
-        shown.extend(bytes_of(machine, row.part, value, joined(path, str(k))))
+        shown.extend(bytes_of(laid, row.part, value, joined(path, str(k))))
     return shown
 
 
-def record_bytes(machine, record, values, path):
+def record_bytes(laid, record, values, path):
     """The bytes of a record."""
-    places = field_places(machine, record)
     shown = []
-    for name, part in record.fields:
-        shown = filled_up(shown, places[name])
-        shown.extend(bytes_of(machine, part, values[name], joined(path, name)))
-    return filled_up(shown, size_on(machine, record))
+    for (name, part), start in zip(record.fields, starts_on(laid, record)):
+        shown = filled_up(shown, start)
+        shown.extend(bytes_of(laid, part, values[name], joined(path, name)))
+    return filled_up(shown, size_on(laid, record))
 
 
 def filled_up(shown, size):

@@ -1,10 +1,17 @@
-"""Where the things in a part lie on one machine.
-
-All functions but the first and the last take parts without uses, of kinds of the machine.
-"""
+"""Where the things in a part lie on one machine."""
 
 from anypads.errors import NoScale
 from anypads.parts import Byte, Kind, Overlay, Record, Row, need_path, need_resolved
+
+
+class Layout:
+    """What has been laid out on one machine, each part once: dicts by the texts of the parts."""
+
+    def __init__(self, machine):
+        self.table = machine.table
+        self.aligns = {}
+        self.sizes = {}
+        self.starts = {}
 
 
 def need_kinds(part, kinds):
@@ -20,66 +27,93 @@ def raised_to(number, scale):
     return (number + scale - 1) // scale * scale
 
 
-def align_on(machine, part):
+# The functions below take parts without uses, of kinds of the machine.
+
+
+def align_on(laid, part):
     """The alignment of a part."""
+    if part.text not in laid.aligns:
+        laid.aligns[part.text] = reckoned_align(laid, part)
+    return laid.aligns[part.text]
+
+
+def reckoned_align(laid, part):
+    """The alignment of a part that is not laid out yet."""
     if isinstance(part, Byte):
         return 1
     if isinstance(part, Kind):
-        return 1 << machine[f"align {part.name}"]
+        return 1 << laid.table[f"align {part.name}"]
     if isinstance(part, Row):
-        return align_on(machine, part.part)
-    return max([int(align_on(machine, inner)) for name, inner in part.inside])
+        return align_on(laid, part.part)
+    return max([int(align_on(laid, inner)) for name, inner in part.inside])
 
 
-def size_on(machine, part):
+def size_on(laid, part):
     """The size of a part."""
+    if part.text not in laid.sizes:
+        laid.sizes[part.text] = reckoned_size(laid, part)
+    return laid.sizes[part.text]
+
+
+def reckoned_size(laid, part):
+    """The size of a part that is not laid out yet."""
     if isinstance(part, Byte):
         return 1
     if isinstance(part, Kind):
-        return part.times * (1 << machine[f"size {part.name}"])
+        return part.times * (1 << laid.table[f"size {part.name}"])
     if isinstance(part, Row):
-        return part.n * size_on(machine, part.part)
-    return raised_to(last_end(machine, part), align_on(machine, part))
+        return part.n * size_on(laid, part.part)
+    return raised_to(last_end(laid, part), align_on(laid, part))
 
 
-def packed_on(machine, record):
+def packed_on(laid, record):
     """The sum of the sizes of a record's fields, rounded up to its alignment."""
-    return raised_to(sum([size_on(machine, inner) for name, inner in record.fields]), align_on(machine, record))
+    return raised_to(sum([size_on(laid, inner) for name, inner in record.fields]), align_on(laid, record))
 
 
-def last_end(machine, group):
+def last_end(laid, group):
     """Where the last field of a record ends, or the greatest member of an overlay."""
     if isinstance(group, Overlay):
-        return max([int(size_on(machine, inner)) for name, inner in group.members])
-    name, part = group.fields[-1]
-    return field_places(machine, group)[name] + size_on(machine, part)
+        return max([int(size_on(laid, inner)) for name, inner in group.members])
+    return starts_on(laid, group)[-1] + size_on(laid, group.fields[-1][1])
 
 
-def field_places(machine, record):
-    """A dict from the names of a record's fields to their places in it."""
-    places = {}
-    end = 0
-    for name, part in record.fields:
-        places[name] = raised_to(end, align_on(machine, part))
-        end = places[name] + size_on(machine, part)
-    return places
+def starts_on(laid, record):
+    """The list of the places of a record's fields in it."""
+    if record.text not in laid.starts:
+        found = []
+        end = 0
+        for name, part in record.fields:
+            found.append(raised_to(end, align_on(laid, part)))
+            end = found[-1] + size_on(laid, part)
+        laid.starts[record.text] = found
+    return laid.starts[record.text]
 
 
-def step_place(machine, part, step):
-    """The place, within a part, of that to which one step leads from it."""
-    if isinstance(part, Record):
-        return field_places(machine, part)[step]
-    if isinstance(part, Row):
-        return int(step) * size_on(machine, part.part)
-    return Overlay.AT
-
-
-def reached(machine, part, path):
-    """The place of a path in any part, and the part there; raises what Machine.place raises."""
-    need_kinds(part, machine.kinds)
-    goal = need_path(part, path)
-    place = 0
+def hops_to(part, path):
+    """The list of tuples (group, index) for the steps of a path behind the first field or element of a group."""
+    hops = []
     for step in path.split("."):
-        place = place + step_place(machine, part, step)
+        steps = [name for name, inner in part.inside]
+        # All members of an overlay are at its own place.
+        at = 0 if isinstance(part, Overlay) else steps.index(step)
+        if at > 0:
+            hops.append((part, at))
         part = part[step]
-    return place, goal
+    return hops
+
+
+def place_on(laid, hops):
+    """The place to which steps lead, as hops_to tells them."""
+    return sum([hop_on(laid, group, at) for group, at in hops])
+
+
+def hop_on(laid, group, at):
+    """The place of the field or element with this index in its group."""
+    return at * size_on(laid, group.part) if isinstance(group, Row) else starts_on(laid, group)[at]
+
+
+def need_place(part, kinds, path):
+    """The part to which any value leads as a path; raises what Machine.place raises on a machine of these kinds."""
+    need_kinds(part, kinds)
+    return need_path(part, path)

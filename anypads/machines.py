@@ -1,7 +1,8 @@
 """Machines: exponents for the scales of one to three kinds, and the layout of parts on them."""
 
 from anypads.errors import NoMachine, NoScale, PadError
-from anypads.layout import align_on, need_kinds, reached, size_on
+from anypads.layout import Layout, align_on, hops_to, need_kinds, need_place, place_on, size_on
+from anypads.reading import reader_of, take_end, taken_exponents
 from anypads.scales import checked_kinds, need_alike, scales_of
 from anypads.words import is_whole
 
@@ -29,6 +30,14 @@ class Machine:
             return False
         return True
 
+    @classmethod
+    def read(cls, text, kinds):
+        """The machine of these kinds that is written so."""
+        reader = reader_of(text)
+        exponents = taken_exponents(reader, kinds, cls.MOST)
+        take_end(reader)
+        return cls(kinds, exponents)
+
     def __getitem__(self, at):
         if not isinstance(at, str) or at not in self.table:
             raise NoScale(at)
@@ -44,25 +53,25 @@ class Machine:
         if not isinstance(other, Machine):
             return NotImplemented
         need_alike(self, other)
-        return rank(self) < rank(other)
+        return rank_of(self.numbers) < rank_of(other.numbers)
 
     def __le__(self, other):
         if not isinstance(other, Machine):
             return NotImplemented
         need_alike(self, other)
-        return rank(self) <= rank(other)
+        return rank_of(self.numbers) <= rank_of(other.numbers)
 
     def __gt__(self, other):
         if not isinstance(other, Machine):
             return NotImplemented
         need_alike(self, other)
-        return rank(self) > rank(other)
+        return rank_of(self.numbers) > rank_of(other.numbers)
 
     def __ge__(self, other):
         if not isinstance(other, Machine):
             return NotImplemented
         need_alike(self, other)
-        return rank(self) >= rank(other)
+        return rank_of(self.numbers) >= rank_of(other.numbers)
 
     def __and__(self, other):
         if not isinstance(other, Machine):
@@ -105,21 +114,23 @@ class Machine:
     def size(self, part):
         """The size of a part."""
         need_kinds(part, self.kinds)
-        return size_on(self, part)
+        return size_on(Layout(self), part)
 
     def align(self, part):
         """The alignment of a part."""
         need_kinds(part, self.kinds)
-        return align_on(self, part)
+        return align_on(Layout(self), part)
 
     def place(self, part, path):
         """The place of a path in a part."""
-        return reached(self, part, path)[0]
+        need_place(part, self.kinds, path)
+        return place_on(Layout(self), hops_to(part, path))
 
     def end(self, part, path):
         """The end of a path in a part."""
-        place, goal = reached(self, part, path)
-        return place + size_on(self, goal)
+        goal = need_place(part, self.kinds, path)
+        laid = Layout(self)
+        return place_on(laid, hops_to(part, path)) + size_on(laid, goal)
 
 
 def checked_numbers(kinds, exponents):
@@ -149,6 +160,6 @@ def numbered(kinds, numbers):
     return Machine(kinds, {kind.name: (s, a) for kind, s, a in zip(kinds, numbers[0::2], numbers[1::2])})
 
 
-def rank(machine):
-    """By what machines are ordered: the greatest exponent, then all of them."""
-    return max([int(number) for number in machine.numbers]), machine.numbers
+def rank_of(numbers):
+    """By what machines with these exponents are ordered: the greatest one, then all of them."""
+    return max([int(number) for number in numbers]), numbers

@@ -11,16 +11,25 @@ class Part:
 
     `inside` has a tuple (step, part) for each step that leads on from here.
     `traits` are the attributes that two equal parts have in common.
+    `text` is how it is written: of the parts that are made of the same kinds, only equal ones are written alike.
+    `ends` has the different kinds and uses at the bottom, by a text for each.
+    `weight` is its units, if there is no use in it.
     """
 
     DEPTH = 4
 
-    def __init__(self, traits=(), inside=()):
+    def __init__(self, text="", traits=(), inside=(), weight=1):
         depth = max([int(part.depth) + 1 for step, part in inside], default=0)
         if depth > Part.DEPTH:
             raise TooLarge("depth", Part.DEPTH)
+        ends = {}
+        for step, part in inside:
+            ends.update(part.ends)
+        self.text = text
         self.traits = traits
         self.inside = inside
+        self.ends = ends
+        self.weight = weight
         self.depth = depth
 
     def __eq__(self, other):
@@ -52,14 +61,13 @@ class Part:
     def kinds_in(self):
         """The tuple of the different kinds in it, by name, then by times."""
         # Times have one figure and a space comes ahead of all letters, so these texts have the order of the kinds.
-        found = {f"{end.name} {end.times}": end for end in bottoms(self) if isinstance(end, Kind)}
-        texts = sorted([str(text) for text in found])
-        return tuple([found[text] for text in texts])
+        texts = sorted([str(text) for text in self.ends])
+        return tuple([self.ends[text] for text in texts if isinstance(self.ends[text], Kind)])
 
     def uses(self):
         """The ascending tuple of the names of the uses in it."""
-        found = {end.name: True for end in bottoms(self) if isinstance(end, Use)}
-        return tuple(sorted([str(name) for name in found]))
+        texts = sorted([str(text) for text in self.ends])
+        return tuple([self.ends[text].name for text in texts if isinstance(self.ends[text], Use)])
 
     def put(self, path, other):
         """The part with another one at a path that has no number of an element."""
@@ -79,22 +87,23 @@ class Kind(Part):
             raise BadName(name)
         if not is_whole(times, 1, MOST_TIMES):
             raise BadTimes(times)
-        Part.__init__(self, (name, times))
+        Part.__init__(self, name, (name, times), (), times)
+        self.ends = {f"{name} {times}": self}
         self.name = name
         self.times = times
 
     def __str__(self):
-        return f"{self.name}"
+        return str(self.text)
 
 
 class Byte(Part):
     """The byte."""
 
     def __init__(self):
-        Part.__init__(self)
+        Part.__init__(self, "byte")
 
     def __str__(self):
-        return "byte"
+        return str(self.text)
 
 
 class Use(Part):
@@ -103,11 +112,12 @@ class Use(Part):
     def __init__(self, name):
         if not is_name(name):
             raise BadName(name)
-        Part.__init__(self, (name,))
+        Part.__init__(self, f"@{name}", (name,))
+        self.ends = {self.text: self}
         self.name = name
 
     def __str__(self):
-        return f"@{self.name}"
+        return str(self.text)
 
 
 class Group(Part):
@@ -133,12 +143,12 @@ class Row(Group):
             raise BadParts(0)
         if not is_whole(n, 1, Row.MOST):
             raise BadTimes(n)
-        Group.__init__(self, (part, n), tuple([(str(k), part) for k in range(n)]))
+        Group.__init__(self, f"{n}*{part.text}", (part, n), tuple([(str(k), part) for k in range(n)]), n * part.weight)
         self.part = part
         self.n = n
 
     def __str__(self):
-        return f"{self.n}*{self.part}"
+        return str(self.text)
 
 
 class Record(Group):
@@ -148,7 +158,9 @@ class Record(Group):
 
     def __init__(self, fields):
         pairs = checked_pairs(fields, Record.MOST)
-        Group.__init__(self, pairs, pairs)
+        written = " ".join([f"{name}:{part.text}" for name, part in pairs])
+        weight = sum([part.weight + 1 for name, part in pairs])
+        Group.__init__(self, "".join(["{", written, "}"]), pairs, pairs, weight)
         self.fields = pairs
 
     def __add__(self, other):
@@ -157,7 +169,7 @@ class Record(Group):
         return Record(self.fields + other.fields)
 
     def __str__(self):
-        return "".join(["{", " ".join([f"{name}:{part}" for name, part in self.fields]), "}"])
+        return str(self.text)
 
 
 class Overlay(Group, Spread):
@@ -167,7 +179,9 @@ class Overlay(Group, Spread):
 
     def __init__(self, members):
         pairs = checked_pairs(members, Overlay.MOST)
-        Group.__init__(self, pairs, pairs)
+        written = "|".join([f"{name}:{part.text}" for name, part in pairs])
+        weight = max([int(part.weight) for name, part in pairs]) + 1
+        Group.__init__(self, f"({written})", pairs, pairs, weight)
         self.members = pairs
 
     def __or__(self, other):
@@ -176,7 +190,7 @@ class Overlay(Group, Spread):
         return Overlay(self.members + other.members)
 
     def __str__(self):
-        return "".join(["(", "|".join([f"{name}:{part}" for name, part in self.members]), ")"])
+        return str(self.text)
 
 
 def is_part(value):
@@ -241,15 +255,6 @@ def with_other(part, steps, other):
     return Record(pairs) if isinstance(part, Record) else Overlay(pairs)
 
 
-def bottoms(part):
-    """The kinds, bytes and uses at the bottom, those of a row's elements once."""
-    if isinstance(part, Row):
-        return bottoms(part.part)
-    if isinstance(part, Group):
-        return [end for name, inner in part.inside for end in bottoms(inner)]
-    return [part]
-
-
 def need_resolved(part):
     """Raises Unresolved with the least name of a use in the part, if there is one."""
     names = part.uses()
@@ -260,17 +265,4 @@ def need_resolved(part):
 def units(part):
     """The units of a part."""
     need_resolved(part)
-    return counted(part)
-
-
-def counted(part):
-    """The units of a part without uses."""
-    if isinstance(part, Kind):
-        return part.times
-    if isinstance(part, Row):
-        return part.n * counted(part.part)
-    if isinstance(part, Record):
-        return sum([counted(inner) + 1 for name, inner in part.fields])
-    if isinstance(part, Overlay):
-        return max([int(counted(inner)) for name, inner in part.members]) + 1
-    return 1
+    return part.weight

@@ -1,12 +1,11 @@
 """Terms: sums of numbers, sizes, alignments and places of the parts of a book."""
 
 from anypads.errors import BadBound, BadName, NoMachine, NoName, NoPath, NotRecord, TooLarge
-from anypads.forms import Form
-from anypads.layout import packed_on
-from anypads.parts import Record, need_path, units
-from anypads.resolving import resolved_part
+from anypads.layout import Layout, align_on, hops_to, packed_on, place_on, size_on
+from anypads.parts import Record, need_path
 from anypads.scales import BYTE
-from anypads.settle import align_in, end_in, packed_in, place_in, size_in
+from anypads.settle import align_at, form_told, multiple, nothing, packed_at, place_at, single, size_at, total
+from anypads.views import View
 from anypads.words import is_figures, is_name, is_whole
 
 MOST_BYTES = 1000
@@ -120,12 +119,19 @@ def units_of(book, term):
 def value(book, term, machine):
     """The value of a term on a machine."""
     need_machine(book, machine)
-    return value_on(checked_parts(book, term), term, machine)
+    parts = checked_parts(book, term)
+    laid = Layout(machine)
+    return sum([many * simple_value(laid, met(parts, (word, name, path))) for many, word, name, path in term.simple])
 
 
 def form_in(book, term, zone):
     """The form of a term in a zone; None if that is not settled."""
-    return settled_form(checked_parts(book, term), term, zone)
+    parts = checked_parts(book, term)
+    view = View(zone)
+    found = (nothing(view), None)
+    for many, word, name, path in term.simple:
+        found = total(found, multiple(many, simple_form(view, met(parts, (word, name, path)))))
+    return form_told(zone, found)
 
 
 def need_machine(book, machine):
@@ -136,7 +142,7 @@ def need_machine(book, machine):
 
 def parts_of(book, names):
     """A dict from those of the names that the book has to their resolved parts."""
-    return {name: resolved_part(book, name) for name in names if name in book}
+    return {name: book.resolved(name) for name in names if name in book}
 
 
 def checked_parts(book, term):
@@ -190,51 +196,42 @@ def units_in(parts, term):
 
 def simple_units(parts, word, name):
     """The units of a simple term."""
-    return 1 if word in ("number", "align") else units(parts[name])
+    return 1 if word in ("number", "align") else parts[name].weight
 
 
-def value_on(parts, term, machine):
-    """The value of a term on a machine of the parts' kinds."""
-    return sum([many * simple_value(parts, (word, name, path), machine) for many, word, name, path in term.simple])
+def met(parts, simple):
+    """What a simple term (word, name, path) stands for: (word, part, hops); the part is that at the path."""
+    word, name, path = simple
+    if word == "number":
+        return word, None, []
+    if word in ("place", "end"):
+        return word, parts[name][path], hops_to(parts[name], path)
+    return word, parts[name], []
 
 
-def simple_value(parts, told, machine):
-    """The value of a simple term, a tuple (word, name, path), on a machine."""
-    word, name, path = told
+def simple_value(laid, told):
+    """The value of what a simple term stands for on a machine of the part's kinds."""
+    word, part, hops = told
     if word == "number":
         return 1
-    part = parts[name]
-    if word == "size":
-        return machine.size(part)
     if word == "align":
-        return machine.align(part)
+        return align_on(laid, part)
     if word == "packed":
-        return packed_on(machine, part)
-    return machine.place(part, path) if word == "place" else machine.end(part, path)
+        return packed_on(laid, part)
+    return place_on(laid, hops) + (0 if word == "place" else size_on(laid, part))
 
 
-def settled_form(parts, term, zone):
-    """The form of a term in a zone of the parts' kinds that is not empty; None if it is not settled."""
-    found = Form({})
-    for many, word, name, path in term.simple:
-        form = simple_form(parts, (word, name, path), zone)
-        if form is None:
-            return None
-        found = found + many * form
-    return found
-
-
-def simple_form(parts, told, zone):
-    """The form of a simple term, a tuple (word, name, path), in a zone; None if it is not settled."""
-    word, name, path = told
+def simple_form(view, told):
+    """The pair (form, question) of what a simple term stands for in a zone of the part's kinds."""
+    word, part, hops = told
     if word == "number":
-        return Form.of(BYTE)
-    part = parts[name]
-    if word == "size":
-        return size_in(zone, part)
+        return single(view, BYTE, 1), None
     if word == "align":
-        scale = align_in(zone, part)
-        return None if scale is None else Form.of(scale)
+        scale, question = align_at(view, part)
+        return (None, question) if scale is None else (single(view, view.order[scale], 1), None)
     if word == "packed":
-        return packed_in(zone, part)
-    return place_in(zone, part, path) if word == "place" else end_in(zone, part, path)
+        return packed_at(view, part)
+    if word == "size":
+        return size_at(view, part)
+    place = place_at(view, hops)
+    return place if word == "place" else total(place, size_at(view, part))

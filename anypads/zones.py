@@ -2,7 +2,7 @@
 
 from anypads.distances import goes_round, lies_within, ring_of, tightened
 from anypads.errors import BadBound, Barred, NoScale
-from anypads.machines import Machine
+from anypads.machines import Machine, numbered
 from anypads.scales import BYTE, checked_kinds, need_alike, scales_of
 from anypads.words import is_count, is_number, is_whole
 
@@ -71,7 +71,7 @@ class Zone:
     def __str__(self):
         if self.far is None:
             return "nothing"
-        return ", ".join([f"{i} - {j} <= {c}" for i, j, c in self.bounds()])
+        return ", ".join([f"{i} - {j} <= {c}" for i, j, c in all_bounds(self)])
 
     def within(self, i, j, c):
         """The zone with one bound more."""
@@ -86,7 +86,7 @@ class Zone:
     def least(self):
         """The least corner."""
         need_points(self)
-        return {scale: -self.far[BYTE, scale] for scale in self.scales}
+        return dict(zip(self.scales, least_numbers(self)))
 
     def greatest(self):
         """The greatest number of each scale, None where there is none."""
@@ -96,10 +96,8 @@ class Zone:
     def bounds(self):
         """Yields (i, j, greatest difference) for all pairs of unlike names that have one."""
         need_points(self)
-        for i in self.order:
-            for j in self.order:
-                if i != j and (i, j) in self.far:
-                    yield (i, j, self.far[i, j])
+        for bound in all_bounds(self):
+            yield bound
 
     def ring(self):
         """None, or told bounds that go round and show that the zone is empty."""
@@ -117,11 +115,15 @@ class Zone:
         """Yields, ascending, the points whose numbers are at most `most`."""
         if not is_whole(most, 0, MOST_WALKED):
             raise BadBound(most)
-        for top in range(most + 1):
-            box = narrowed(self, [(scale, BYTE, top) for scale in self.scales])
-            if box.far is not None:
-                for numbers in filled(box, top, ()):
-                    yield dict(zip(self.scales, numbers))
+        zones = [self]
+        for numbers in points_of(zones, most):
+            yield dict(zip(self.scales, numbers))
+
+
+def all_bounds(zone):
+    """The list of (i, j, greatest difference) for all pairs of unlike names that have one; the zone is not empty."""
+    pairs = [(i, j) for i in zone.order for j in zone.order if i != j and (i, j) in zone.far]
+    return [(i, j, zone.far[i, j]) for i, j in pairs]
 
 
 def own_bounds(kinds, scales):
@@ -181,20 +183,51 @@ def keeps(zone, numbers):
     return all([numbers[i] - numbers[j] <= c for i, j, c in zone.told])
 
 
-def filled(box, top, begun):
+def points_of(zones, most):
+    """Yields, ascending, the numbers up to `most` of the points in zones of the same kinds."""
+    boxes = [box for box in [below(zone, most) for zone in zones] if box.far is not None]
+    bottoms = [max([int(number) for number in least_numbers(box)]) for box in boxes]
+    tops = [greatest_number(box) for box in boxes]
+    for top in range(max([int(number) for number in tops], default=-1) + 1):
+        near = [below(box, top) for box, first, last in zip(boxes, bottoms, tops) if first <= top <= last]
+        for numbers in filled(near, top, ()):
+            yield numbers
+
+
+def below(zone, most):
+    """The zone of the points whose numbers are at most `most`."""
+    return narrowed(zone, [(scale, BYTE, most) for scale in zone.scales])
+
+
+def least_numbers(zone):
+    """The tuple of the numbers of the least corner; the zone is not empty."""
+    return tuple([-zone.far[BYTE, scale] for scale in zone.scales])
+
+
+def greatest_number(zone):
+    """The greatest number of a point; there is one."""
+    return max([int(zone.far[scale, BYTE]) for scale in zone.scales])
+
+
+def filled(boxes, top, begun):
     """Yields, ascending, the tuples of numbers that begin with these and have the greatest number `top`.
 
-    The box is not empty, and none of its points has a number above `top`.
+    They are points of some of the boxes, which are not empty, and whose points have no number above `top`.
     """
-    if not can_reach(box, top, begun):
+    boxes = [box for box in boxes if can_reach(box, top, begun)]
+    if not boxes:
         return
-    if len(begun) == len(box.scales):
+    scales = boxes[0].scales
+    if len(begun) == len(scales):
         yield begun
         return
-    low, high = span_behind(box, begun, box.scales[len(begun)])
-    for number in range(low, high + 1):
+    spans = [span_behind(box, begun, scales[len(begun)]) for box in boxes]
+    first = min([int(low) for low, high in spans])
+    last = max([int(high) for low, high in spans])
+    for number in range(first, last + 1):
         longer = begun + (number,)
-        for numbers in filled(box, top, longer):
+        lying = [box for box, (low, high) in zip(boxes, spans) if low <= number <= high]
+        for numbers in filled(lying, top, longer):
             yield numbers
 
 
@@ -210,3 +243,18 @@ def span_behind(box, begun, scale):
     low = max([int(fixed[name] - box.far[name, scale]) for name in fixed if (name, scale) in box.far])
     high = min([int(fixed[name] + box.far[scale, name]) for name in fixed if (scale, name) in box.far])
     return low, high
+
+
+def least_machine(zones):
+    """The least machine in some zones that are not empty."""
+    best = None
+    for zone in zones:
+        machine = corner(zone)
+        if best is None or machine < best:
+            best = machine
+    return best
+
+
+def corner(zone):
+    """The least machine in a zone that is not empty."""
+    return numbered(zone.kinds, least_numbers(zone))

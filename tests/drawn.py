@@ -1,8 +1,14 @@
-"""Zones, forms and parts that are drawn, always the same ones, and the machines with small exponents in a zone."""
+"""Zones, forms, parts, books and claims that are drawn, always the same ones, and machines with small exponents."""
 
+import itertools
+
+from anypads.books import Book
+from anypads.claims import at_most, least_order, less, no, no_gap, no_tail, same, stands_in, yes
+from anypads.errors import Barred
 from anypads.forms import Form
 from anypads.machines import Machine
-from anypads.parts import Byte, Kind, Overlay, Record, Row
+from anypads.parts import Byte, Kind, Overlay, Record, Row, Use
+from anypads.terms import align, end, number, packed, place, size
 from anypads.zones import Zone
 
 KINDS = [Kind("a"), Kind("b", 2), Kind("c", 3)]
@@ -72,3 +78,61 @@ def every_path(part):
         yield step
         for path in every_path(inner):
             yield f"{step}.{path}"
+
+
+def machines_up_to(kinds, most):
+    """The ascending list of all machines of these kinds with exponents up to a number, made by hand."""
+    pairs = [(s, a) for s in range(most + 1) for a in range(s + 1)]
+    found = []
+    for each in itertools.product(pairs, repeat=len(kinds)):
+        found.append(Machine(kinds, {kind.name: pair for kind, pair in zip(kinds, each)}))
+    return sorted(found, key=by_order)
+
+
+def by_order(machine):
+    """By what point 8 orders machines."""
+    numbers = [machine[scale] for scale in machine.scales]
+    return max(numbers), numbers
+
+
+def drawn_book(rng, kinds, depth=2, facts=2):
+    """A book with the parts p, q and r, the last of which uses the others, and a few facts."""
+    book = Book(*kinds)
+    book["p"] = Record([("w", drawn_part(rng, kinds, depth)), ("x", drawn_part(rng, kinds, 1)), ("y", drawn_part(rng, kinds, 0))])
+    book["q"] = Record([("x", drawn_part(rng, kinds, 1)), ("w", drawn_part(rng, kinds, 0))])
+    book["r"] = rng.choice([
+        Record([("a", Use("p")), ("b", Row(Use("q"), 2))]), Overlay([("a", Use("p")), ("b", Use("q"))]), Record([("b", Use("q"))]),
+    ])
+    for _ in range(rng.randint(0, facts)):
+        try:
+            book += drawn_claim(rng, book)
+        except Barred:
+            pass
+    return book
+
+
+def drawn_term(rng, book):
+    name = rng.choice(list(book.names) + [kind.name for kind in book.kinds])
+    part = book.resolved(name)
+    paths = list(every_path(part))
+    told = [size(name), align(name), number(rng.randint(0, 20)), rng.randint(1, 4) * size(name)]
+    if paths:
+        told += [place(name, rng.choice(paths)), end(name, rng.choice(paths))]
+    if isinstance(part, Record):
+        told.append(packed(name))
+    one = rng.choice(told)
+    return one + drawn_term(rng, book) if rng.random() < 0.15 else one
+
+
+def drawn_simple(rng, book):
+    name = rng.choice(["p", "q"])
+    path = rng.choice(list(every_path(book.resolved(name))))
+    sorts = [no_gap(name, path), no_tail(name), least_order(name), stands_in(name, rng.choice(["p", "q", "r"])), yes(), no()]
+    return rng.choice(sorts + [rng.choice([at_most, less, same])(drawn_term(rng, book), drawn_term(rng, book)) for _ in range(9)])
+
+
+def drawn_claim(rng, book, depth=2):
+    if depth == 0 or rng.random() < 0.4:
+        return drawn_simple(rng, book)
+    one, other = drawn_claim(rng, book, depth - 1), drawn_claim(rng, book, depth - 1)
+    return rng.choice([~one, one & other, one | other])

@@ -7,6 +7,8 @@ import ast
 import builtins
 import re
 
+from tests.calls import call_findings
+
 PACKAGE = "anypads"
 LONGEST = {"row": 120, "function": 40, "file": 399}
 LIBRARY = {
@@ -62,8 +64,6 @@ ATTRIBUTES = set(
 FILES = re.compile(r"law_.*|tests?|testing|test_.*|site|conftest|sitecustomize|usercustomize")
 CAUGHT = {"KeyError", "ZeroDivisionError", "StopIteration"}
 CHANGES = {"append", "clear", "extend", "insert", "pop", "remove", "reverse", "setdefault", "update"}
-# Read off a book, which the document tells ahead of its class.
-TOLD = {"facts"}
 STATEMENTS = (
     ast.Assign, ast.If, ast.While, ast.For, ast.Return, ast.Break, ast.Continue, ast.Pass, ast.Raise, ast.Assert,
     ast.Delete, ast.Nonlocal, ast.Match, ast.With, ast.Try, ast.Expr, ast.FunctionDef, ast.ClassDef, ast.ImportFrom,
@@ -82,7 +82,7 @@ def findings(files):
     package = Package(trees)
     for name, tree in trees.items():
         found += Look(name, tree, package).found
-    return found + package.found
+    return found + package.found + call_findings(trees)
 
 
 def row_findings(name, text):
@@ -118,6 +118,7 @@ class Package:
         self.defined = {name: defined_in(tree) for name, tree in trees.items()}
         self.reads = {name: read_by(tree) for name, tree in trees.items()}
         self.classes, self.places, self.methods, self.attributes, self.values = {}, {}, {}, {}, {}
+        self.properties, self.setters = set(), set()
         for name, tree in trees.items():
             for node in [node for node in ast.walk(tree) if isinstance(node, ast.ClassDef)]:
                 self.add(name, node)
@@ -135,7 +136,11 @@ class Package:
     def add(self, name, node):
         self.classes[node.name] = [base.id for base in node.bases if isinstance(base, ast.Name)]
         self.places[node.name] = f"{name}:{node.lineno}"
-        self.methods[node.name] = [item.name for item in node.body if isinstance(item, ast.FunctionDef)]
+        functions = [item for item in node.body if isinstance(item, ast.FunctionDef)]
+        # A property and its setter are one method.
+        self.methods[node.name] = [item.name for item in functions if f"{item.name}.setter" not in decorators(item)]
+        self.properties |= {item.name for item in functions if "property" in decorators(item)}
+        self.setters |= {item.name for item in functions if f"{item.name}.setter" in decorators(item)}
         self.values[node.name] = [
             target.id for item in node.body if isinstance(item, ast.Assign) for target in item.targets if isinstance(target, ast.Name)
         ]
@@ -156,6 +161,8 @@ class Package:
             "L5 a class value that is an attribute or a method": bool(set(self.values[word]) & (self.every_attribute | self.every_method)),
             "L18 a method twice": len(self.methods[word]) != len(set(self.methods[word])),
             "L5 __getitem__ without __iter__": "__getitem__" in methods and "__iter__" not in methods,
+            "L6 __enter__ and __exit__": ("__enter__" in methods) != ("__exit__" in methods),
+            "L5 property that is an attribute": bool((self.properties - self.setters) & self.attributes[word]),
             "L5 reflected in a family": related and bool(methods & REFLECTED),
             "L5 orders in a family": related and ({"__lt__", "__gt__"} <= methods or {"__le__", "__ge__"} <= methods),
         }
@@ -180,6 +187,11 @@ class Package:
             wrong = words.count(node.name) > 1 or node.name.startswith("__") or node.name in METHODS
             if yields(node) and wrong:
                 self.found.append(f"{name}:{node.lineno} L23 name of a generator")
+
+
+def decorators(node):
+    """The texts of what stands over a function."""
+    return [ast.unparse(decorator) for decorator in node.decorator_list]
 
 
 def yields(node):
@@ -211,6 +223,7 @@ class Look:
         self.name, self.package, self.found = name, package, []
         self.parents = {child: node for node in ast.walk(tree) for child in ast.iter_child_nodes(node)}
         self.docstrings = {doc for node in ast.walk(tree) for doc in docstring_of(node)}
+        self.decorated = {node for node in ast.walk(tree) if isinstance(node, ast.FunctionDef) and node.decorator_list}
         self.imports = [alias.name for node in tree.body if isinstance(node, ast.ImportFrom) for alias in node.names]
         self.taken = set(self.imports) | {word for word in package.defined[name] if word in package.classes}
         for node in ast.walk(tree):
@@ -296,6 +309,8 @@ class Look:
             self.say_if(any(isinstance(inner, ast.Add) for inner in ast.walk(node)), node, f"L5 sum in {node.name}")
         if node.name == "__bool__":
             self.say_if(not is_truth(node.body[-1]), node, "L5 return of __bool__")
+        if node.name == "__exit__":
+            self.look_at_exit(node)
         if node.name == "__iter__":
             self.say_if(not isinstance(node.body[-1], ast.Raise) or len(node.body) != 1, node, "L5 __iter__")
         if node.name in PURE:
@@ -338,7 +353,10 @@ class Look:
     def at_Attribute(self, node):
         self.say_if(isinstance(node.ctx, ast.Store) and node.attr in ATTRIBUTES, node, f"L26 {node.attr}")
         package = self.package
-        known = METHODS | TOLD | package.every_attribute | package.every_method | package.every_value
+        parent = self.parents[node]
+        known = package.every_attribute | package.every_value | package.properties
+        if isinstance(parent, ast.Call) and parent.func is node or node.attr == "setter" and parent in self.decorated:
+            known = known | METHODS | package.every_method | {"setter"}
         unknown = isinstance(node.ctx, ast.Load) and not node.attr.startswith("__") and node.attr not in known
         self.say_if(unknown, node, f"L18 {node.attr} is no attribute")
         named = node.attr.startswith("__") and node.attr not in ("__init__", "__class__", "__name__")
@@ -407,6 +425,7 @@ class Look:
         wrong = word in BUILTINS and any(keyword.arg not in KEYWORDS.get(word, ()) for keyword in node.keywords)
         self.say_if(wrong, node, f"L22 keyword of {word}")
         self.say_if(word in AT_ONCE and not self.is_iterated(node), node, "L23 kept")
+        self.say_if(word == "range" and not self.is_ranged(node), node, "L23 range that is passed on")
         if word in ("set", "frozenset"):
             self.at_Set(node)
         if word in ("sorted", "min", "max") and self.package.every_method & ORDERS:
@@ -418,6 +437,31 @@ class Look:
         if isinstance(parent, ast.Call):
             return isinstance(parent.func, ast.Name) and parent.func.id in TAKERS
         return isinstance(parent, ast.YieldFrom) or isinstance(parent, (ast.For, ast.comprehension)) and parent.iter is node
+
+    def is_ranged(self, node):
+        """Whether a range is iterated at once, measured, searched, turned round, or kept in a variable."""
+        parent = self.parents[node]
+        if isinstance(parent, ast.Call) and isinstance(parent.func, ast.Name):
+            return parent.func.id in TAKERS | {"len", "reversed"}
+        return self.is_iterated(node) or isinstance(parent, (ast.Compare, ast.Assign))
+
+    def at_With(self, node):
+        for item in node.items:
+            held = item.optional_vars
+            plain = isinstance(item.context_expr, (ast.Call, ast.Name, ast.Attribute))
+            self.say_if(not plain or held is not None and not isinstance(held, ast.Name), node, "L6 with")
+
+    def look_at_exit(self, node):
+        """The rows of `__exit__` only give attributes names or attributes, and one name an attribute of `self`."""
+        self.say_if([told.arg for told in parameters(node)][1:] != ["kind", "value", "trace"], node, "L6 parameters of __exit__")
+        for row in node.body:
+            fine = isinstance(row, ast.Pass) or isinstance(row, ast.Expr) and row.value in self.docstrings
+            if isinstance(row, ast.Assign) and len(row.targets) == 1:
+                fine = isinstance(row.targets[0], (ast.Name, ast.Attribute)) and isinstance(row.value, (ast.Name, ast.Attribute))
+            self.say_if(not fine, row, "L6 row of __exit__")
+
+    def at_Try(self, node):
+        self.say_if(node.finalbody, node, "L6 finally: not looked at by this script")
 
     def at_Constant(self, node):
         self.say_if(isinstance(node.value, (float, complex)) or node.value is Ellipsis, node, "L7 value")

@@ -6,12 +6,17 @@ import inspect
 import os
 import unittest
 
-from anypads.claims import Claim
+from anypads.books import Book
+from anypads.claims import Claim, yes
+from anypads.desk import Desk
+from anypads.fewest import choices
 from anypads.forms import Form
 from anypads.machines import Machine
 from anypads.parts import Byte, Kind, Overlay, Part, Record, Row, Spread, Use
-from anypads.terms import Term
+from anypads.regions import Region, region, span
+from anypads.terms import Term, number
 from anypads.trees import LEAF, leaves
+from anypads.verdicts import Verdict, decide, verdicts
 from anypads.zones import Zone
 from tests.values import FIELDS
 
@@ -43,6 +48,28 @@ FUNCTIONS = {
     "anypads.trees": {
         "ask": ["i", "j", "c", "yes", "no"], "leaves": ["book", "tree"], "leaf_of": ["book", "tree", "machine"],
         "size_of": ["tree"], "depth_of": ["tree"], "grafted": ["tree", "other"], "called": ["tree", "names"],
+    },
+    "anypads.verdicts": {"decide": ["book", "claim", "given"], "verdicts": ["book", "claims", "given"]},
+    "anypads.looker": {
+        "is_tree": ["book", "thing"], "shows_always": ["book", "claim", "thing", "given"],
+        "shows_breaks": ["book", "claim", "machine", "given"], "shows_least": ["book", "claim", "machine", "thing", "given"],
+        "shows_nothing": ["book", "thing", "given"],
+    },
+    "anypads.regions": {
+        "region": ["book", "claim", "given"], "implied": ["book", "i", "j"], "span": ["book", "term"], "sure": ["book", "term"],
+        "told_sizes": ["book", "sizes"],
+    },
+    "anypads.orders": {
+        "ordered": ["record", "order"], "waste": ["machine", "record", "order"], "is_valley": ["machine", "record", "order"],
+        "least_orders": ["book", "name"], "fewest_orders": ["book", "name"], "shows_orders": ["book", "name", "thing"],
+    },
+    "anypads.fewest": {
+        "choices": ["many"], "fewest": ["book", "claim", "offered"], "fewest_barred": ["book", "offered"],
+        "shows_fewest": ["book", "claim", "offered", "thing"], "shows_barred": ["book", "offered", "thing"],
+    },
+    "anypads.texts": {
+        "read_part": ["text", "kinds"], "read_machine": ["text", "kinds"], "read_tree": ["text", "kinds"], "read_term": ["text"],
+        "read_claim": ["text"], "tree_text": ["tree"],
     },
 }
 # The methods of each class, with their parameters behind `self`.
@@ -87,15 +114,37 @@ CLASSES = {
     "anypads.claims": {
         "Claim": {"__and__": None, "__or__": None, "__invert__": None, "__eq__": None, "__str__": [], "named": []},
     },
+    "anypads.books": {
+        "Book": {
+            "__init__": ["*kinds"], "__setitem__": None, "__getitem__": None, "__contains__": None, "__len__": [], "__iadd__": None,
+            "__call__": ["claim"], "__eq__": None, "drop": ["name"], "resolved": ["name"], "set_facts": ["claims"], "trial": [],
+            "tried": ["ask"], "twin": [],
+        },
+    },
+    "anypads.verdicts": {
+        "Verdict": {"__bool__": [], "__eq__": None, "__repr__": []}, "Always": {"__init__": ["tree"]},
+        "Breaks": {"__init__": ["machine", "tree"]}, "Nothing": {"__init__": ["tree"]},
+    },
+    "anypads.regions": {
+        "Region": {
+            "__contains__": None, "__bool__": [], "__and__": None, "__or__": None, "__sub__": None, "__iand__": None, "__ior__": None,
+            "__isub__": None, "__le__": None, "__eq__": None, "zones": [], "least": [], "count": [], "ascending": ["most"],
+        },
+        "Span": {"__contains__": None, "__bool__": [], "__eq__": None},
+    },
+    "anypads.desk": {"Desk": {"__init__": [], "__len__": [], "__call__": ["line"], "say": ["line"], "run": ["*lines"], "book": []}},
 }
+PROPERTIES = [(Book, "names", False), (Book, "facts", True), (Region, "endless", False)]
 # Static methods and class methods.
 OFF_CLASSES = [
     (Machine, "is_machine", staticmethod, ["kinds", "exponents"]), (Zone, "of", classmethod, ["cls", "kinds"]),
     (Form, "of", staticmethod, ["scale", "number"]), (Claim, "is_claim", staticmethod, ["thing"]),
+    (Machine, "read", classmethod, ["cls", "text", "kinds"]),
 ]
 CLASS_VALUES = [(Part, "DEPTH", 4), (Spread, "AT", 0), (Row, "MOST", 64), (Record, "MOST", 8), (Overlay, "MOST", 4),
-                (Machine, "MOST", 1000), (Zone, "MOST", 2000), (Term, "MOST", 64)]
-GENERATORS = [Part.paths, Zone.bounds, Zone.walk, leaves]
+                (Machine, "MOST", 1000), (Zone, "MOST", 2000), (Term, "MOST", 64), (Verdict, "WORDS", ("always", "breaks", "nothing"))]
+GENERATORS = [Part.paths, Zone.bounds, Zone.walk, leaves, verdicts, Region.ascending, choices]
+BOOK = Book(Kind("i"))
 ATTRIBUTES = [
     (Kind("i"), {"name": str, "times": int, "depth": int}),
     (Byte(), {"depth": int}),
@@ -108,6 +157,12 @@ ATTRIBUTES = [
     (Zone(Kind("i")).within("byte", "byte", -1), {"kinds": tuple, "scales": tuple}),
     (Form({"byte": 1}), {"scales": tuple}),
     (2 * Form({}) + Form({}), {"scales": tuple}),
+    (BOOK, {"kinds": tuple}),
+    (decide(BOOK, yes()), {"word": str, "tree": tuple, "machine": type(None)}),
+    (decide(BOOK, ~yes()), {"word": str, "tree": tuple, "machine": Machine}),
+    (region(BOOK, yes()) & region(BOOK, ~yes()), {"kinds": tuple, "scales": tuple}),
+    (span(BOOK, number(1)), {"low": int, "low_machine": Machine, "high": int, "high_machine": Machine}),
+    (Desk(), {}),
 ]
 
 
@@ -148,6 +203,12 @@ class Interface(unittest.TestCase):
             self.assertIsInstance(vars(thing)[name], shape)
             self.assertEqual(arguments(vars(thing)[name].__func__), parameters)
 
+    def test_properties(self):
+        for thing, name, is_set in PROPERTIES:
+            told = vars(thing)[name]
+            self.assertIsInstance(told, property)
+            self.assertIs(told.fset is not None, is_set)
+
     def test_values(self):
         for thing, name, expected in CLASS_VALUES:
             self.assertEqual(vars(thing)[name], expected)
@@ -156,6 +217,11 @@ class Interface(unittest.TestCase):
     def test_defaults(self):
         self.assertEqual(inspect.signature(Kind).parameters["times"].default, 1)
         self.assertEqual(inspect.signature(Form.of).parameters["number"].default, 1)
+        for module in ("verdicts", "looker", "regions"):
+            for name, parameters in FUNCTIONS["anypads." + module].items():
+                if "given" in parameters:
+                    function = getattr(importlib.import_module("anypads." + module), name)
+                    self.assertEqual(inspect.signature(function).parameters["given"].default, ())
 
     def test_generators(self):
         for function in GENERATORS:

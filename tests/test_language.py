@@ -60,7 +60,12 @@ BROKEN = [
     ("L5", "class A:\n    MOST = 1\n\n    def MOST(self):\n        pass\n"),
     ("L5", "class A:\n    MOST = 1\n\n\nclass B:\n    def __init__(self):\n        self.MOST = 1\n"),
     ("L7", "def f(x):\n    return f(*x.parts())\n\n\nclass A:\n    def parts(self):\n        pass\n"), ("L7", "def f(x):\n    return f(*f(x))\n"),
+    ("L18", "class A:\n    def f(self):\n        return self.f\n"), ("L18", "def f(book):\n    return tuple(book.facts)\n"),
     ("L18", "def f(x):\n    return x.lost\n"), ("L18", "def f(x):\n    x.made = 1\n    return x.made\n"),
+    ("L23", "def f(x):\n    return g(range(x))\n\n\ndef g(x):\n    return x\n"), ("L23", "def f(x):\n    return [range(x)]\n"),
+    ("L6", "class A:\n    def __enter__(self):\n        return self\n\n    def __exit__(self, kind, value, trace):\n        self.x.pop()\n"),
+    ("L6", "class A:\n    def __enter__(self):\n        return self\n"), ("L6", "def f(x):\n    with x as x.y:\n        pass\n"),
+    ("L5", "class A:\n    def __init__(self):\n        self.x = 1\n\n    @property\n    def x(self):\n        return 1\n"),
     ("L23", GENERATOR + "def g():\n    rows = f(1)\n"), ("L23", GENERATOR + "def g():\n    return f(1)\n"),
     ("L23", GENERATOR + "def g():\n    return [x for x in f(1 + 1)]\n"), ("L23", GENERATOR + "def g():\n    return len(f(1))\n"),
     ("L23", "class A:\n    def split(self):\n        yield 1\n"),
@@ -74,6 +79,68 @@ BROKEN = [
     ("L28", FAMILY + "class D(C):\n    def __init__(self):\n        self.made = C.__init__\n"),
     ("L28", FAMILY + "def again(it):\n    A.__init__(it)\n"),
 ]
+
+WALKER = (
+    "def f(x):\n    yield x\n\n\ndef h(x):\n    for y in f(x):\n        return y\n    return None\n\n\n"
+    "class A:\n    def __init__(self, x):\n        self.x = x\n\n    def told(self):\n        yield self.x\n\n"
+)
+# Each file breaks L5 in what an operator or a property runs.
+RUN = [
+    WALKER + "    def __str__(self):\n        return ', '.join([y for y in self.told()])\n",
+    WALKER + "    def __repr__(self):\n        for y in f(self.x):\n            return str(y)\n        return ''\n",
+    WALKER + "    def __eq__(self, other):\n        return h(self.x) == h(other.x)\n",
+    WALKER + "    def __len__(self):\n        return len([y for y in self.told()])\n",
+    WALKER + "    def __add__(self, other):\n        return A(h(other.x))\n",
+    WALKER + "    @property\n    def first(self):\n        return h(self.x)\n",
+    WALKER + "    def __bool__(self):\n        return bool(self.held())\n\n    def held(self):\n        return h(self.x)\n",
+    WALKER + "    def __neg__(self):\n        return B(self)\n\n\nclass B(A):\n    def __init__(self, x):\n        self.y = h(x)\n",
+    WALKER + "    def __add__(self, other):\n        self.x.append(other)\n        return self\n",
+    WALKER + "    def __add__(self, other):\n        return put(self.x, other)\n\n\ndef put(rows, row):\n    rows[0] = row\n",
+    WALKER + "    def __add__(self, other):\n        return put(other)\n\n\ndef put(box):\n    box.x = 1\n",
+    WALKER + "    @property\n    def first(self):\n        rows = self.x\n        rows.pop()\n        return rows\n",
+    WALKER + "    def __and__(self, other):\n        return other(self)\n",
+]
+RUN_WELL = WALKER + '''    def __add__(self, other):
+        return joined(self, other)
+
+    def __iadd__(self, other):
+        self.x.extend(list(other.told()))
+        return self
+
+    @property
+    def rows(self):
+        return list(self.x)
+
+    @rows.setter
+    def rows(self, value):
+        self.x = [y for y in f(value)]
+
+    def __call__(self, ask):
+        return ask(h(self.x))
+
+
+def joined(one, other):
+    rows = [row for row in one.x]
+    rows.append(len(other.x))
+    made = A(rows)
+    made.x = rows
+    return made
+
+
+class Keep:
+    """A block."""
+
+    def __init__(self, box):
+        self.box = box
+
+    def __enter__(self):
+        self.x = list(self.box.x)
+        return self.box
+
+    def __exit__(self, kind, value, trace):
+        box = self.box
+        box.x = self.x
+'''
 
 SOUND = '''"""A file that keeps the rules."""
 
@@ -157,6 +224,12 @@ class Language(unittest.TestCase):
         for rule, text in BROKEN:
             found = findings({"words.py": "def is_name(value):\n    return True\n", "broken.py": text})
             self.assertTrue(any(f" {rule} " in finding for finding in found), (rule, text, found))
+
+    def test_what_operators_run(self):
+        for text in RUN:
+            found = findings({"broken.py": text})
+            self.assertTrue(any("run by an operator or a property" in finding for finding in found), (text, found))
+        self.assertEqual(findings({"sound.py": RUN_WELL}), [])
 
     def test_names_of_files(self):
         for name in ("Upper.py", "data.txt", "test_a.py", "len.py", "law_a.py", "a-b.py"):

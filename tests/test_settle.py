@@ -4,7 +4,7 @@ import random
 import unittest
 
 from anypads.forms import Form
-from anypads.layout import packed_on
+from anypads.layout import Layout, packed_on
 from anypads.parts import Byte, Kind, Overlay, Record, Row, Use, units
 from anypads.settle import align_scale, end_form, packed_form, place_form, size_form
 from anypads.zones import Zone
@@ -245,7 +245,7 @@ class Drawn(unittest.TestCase):
                 if whole is not None:
                     self.assertEqual(whole(machine), machine.size(part))
                 if small is not None:
-                    self.assertEqual(small(machine), packed_on(machine, part))
+                    self.assertEqual(small(machine), packed_on(Layout(machine), part))
                 for path, place, end in forms:
                     if place is not None:
                         self.assertEqual(place(machine), machine.place(part, path))

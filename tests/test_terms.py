@@ -4,7 +4,7 @@ import random
 import unittest
 
 from anypads.forms import Form
-from anypads.layout import packed_on
+from anypads.layout import Layout, packed_on
 from anypads.machines import Machine
 from anypads.parts import Byte, Kind, Overlay, Record, Row, Use
 from anypads.terms import Term, align, end, form_in, number, packed, place, size, units_of, value
@@ -194,7 +194,7 @@ class InABook(unittest.TestCase):
                 told = value(book, term, machine)
                 if form is not None:
                     self.assertEqual(form(machine), told)
-            self.assertEqual(value(book, packed("p"), machine), packed_on(machine, part))
+            self.assertEqual(value(book, packed("p"), machine), packed_on(Layout(machine), part))
 
 
 class Refused(unittest.TestCase):

@@ -1,11 +1,15 @@
 """Values of all sorts to pass where any value is accepted, and how to tell what a call raised."""
 
+from anypads.books import Book
 from anypads.claims import no_tail, same as same_claim, yes
+from anypads.desk import Desk
 from anypads.errors import BadName, PadError
 from anypads.forms import Form
 from anypads.machines import Machine
 from anypads.parts import Byte, Kind, Overlay, Record, Row, Use
+from anypads.regions import region, span
 from anypads.terms import number, size
+from anypads.verdicts import decide
 from anypads.zones import Zone
 
 
@@ -30,14 +34,20 @@ TERMS = [number(1), 2 * size("any") + number(3)]
 CLAIMS = [yes(), ~no_tail("any"), same_claim(size("any"), number(1))]
 ZONES = [Zone(Kind("any")), Zone(Kind("any")).within("byte", "size any", -1).within("size any", "byte", 0)]
 FORMS = [Form({}), Form({"size any": 1})]
-OBJECTS = PARTS + TERMS + CLAIMS + ZONES + FORMS + [Machine([Kind("any")], {"any": (3, 1)}), BadName("any")]
+BOOK = Book(Kind("any"))
+TOLD = [
+    BOOK, BOOK.trial(), Desk(), decide(BOOK, yes()), decide(BOOK, CLAIMS[2]), decide(BOOK, yes(), [~yes()]),
+    region(BOOK, yes()), region(BOOK, ~yes()), span(BOOK, number(1)), span(BOOK, size("any")),
+]
+OBJECTS = PARTS + TERMS + CLAIMS + ZONES + FORMS + TOLD + [Machine([Kind("any")], {"any": (3, 1)}), BadName("any")]
+TREES = [("leaf",), ("ask", "size any", "byte", 0, ("leaf",), ("leaf",)), ("leaf", 1), ["leaf"], ("ask", "size any", "byte", 0, ("leaf",))]
 NUMBERS = [0, 1, 2, 8, -1, 1000, 1001, GREAT, -GREAT]
 TEXTS = ["", " ", "a", "Any", "a.b", "0", "00", "byte", "size any", "a" * 2000, "~"]
 SHAPES = [
     [], [1], ["a"], [None], (), (1,), ("a", None), ("a", "b", "c"), (("a", 1), 2), {}, {"a": 1},
     {"a": (1, 1)}, {1: "a", None: [], (1, "b"): ()}, nested(4), nested(12), [("a", 1)], [("a", Byte())],
 ]
-ANY = [None, True, False] + NUMBERS + TEXTS + SHAPES + OBJECTS
+ANY = [None, True, False] + NUMBERS + TEXTS + SHAPES + OBJECTS + TREES
 
 FIELDS = {
     "BadName": ("name",),
