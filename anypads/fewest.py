@@ -2,9 +2,11 @@
 
 from anypads.claims import Claim, yes
 from anypads.errors import NoClaim, NoOffer
-from anypads.looker import all_hold, is_false, is_of_book, is_shown, shows
-from anypads.plans import plan_of
+from anypads.looker import all_hold, is_of_book, is_shown, is_tree, shows
+from anypads.plans import plan_of, told_in
 from anypads.splitting import Matter, let_leaves, split, tree_of
+from anypads.trees import leaves
+from anypads.views import View
 from anypads.words import is_number
 from anypads.zones import least_machine
 
@@ -92,7 +94,7 @@ def shows_barred(book, offered, thing):
         return False
     if not all([is_let(book, offer, musts_of(offer, each), machine) for each, machine in zip(ahead, machines)]):
         return False
-    return shows_bar(book, offer, choice, tree)
+    return shows_bar(book, offer, choice, tree, [])
 
 
 def need_offer(claim, offered):
@@ -153,26 +155,49 @@ def is_let(book, offer, musts, machine):
     return is_of_book(book, machine) and all_hold(offer.plan, musts, machine)
 
 
-def shows_bar(book, offer, choice, tree):
-    """Whether any value is a tree that shows that a choice is barred."""
+def shows_bar(book, offer, choice, tree, seen):
+    """Whether any value is a tree that shows that a choice is barred.
+
+    The list `seen` has pairs of trees and what false_at tells of them; it gets this one.
+    """
+    if not is_tree(book, tree):
+        return False
+    found = [falsehoods for other, falsehoods in seen if other == tree]
+    if not found:
+        found = [false_at(book, offer, tree)]
+        seen.append((tree, found[0]))
     musts = musts_of(offer, choice)
-    return shows(book, tree, lambda view: is_false(offer.plan, musts, view))
+    return all([any([at in falsehoods for at in musts]) for falsehoods in found[0]])
+
+
+def false_at(book, offer, tree):
+    """A list of the indexes of the claims that are told false, for each leaf of a tree that has a machine."""
+    found = []
+    for zone in leaves(book, tree):
+        view = View(zone)
+        found.append([at for at in range(len(offer.plan.claims)) if told_in(offer.plan, at, view) is False])
+    return found
 
 
 def are_reasons(book, offer, ahead, reasons):
     """Whether any value is a tuple of reasons why none of these choices does."""
     if not isinstance(reasons, tuple) or len(reasons) != len(ahead):
         return False
-    return all([is_reason(book, offer, choice, reason) for choice, reason in zip(ahead, reasons)])
+    # What bars a choice bars longer ones too, so that one tree may stand in many reasons.
+    seen = []
+    for choice, reason in zip(ahead, reasons):
+        if not is_reason(book, offer, choice, reason, seen):
+            return False
+    return True
 
 
-def is_reason(book, offer, choice, reason):
-    """Whether any value is a reason why a choice does not do."""
+def is_reason(book, offer, choice, reason, seen):
+    """Whether any value is a reason why a choice does not do; `seen` is as in shows_bar."""
     if not isinstance(reason, tuple) or len(reason) != 3 or not is_choice(reason[0], [choice]):
         return False
     machine, tree = reason[1:]
     if machine is None:
-        return shows_bar(book, offer, choice, tree)
+        return shows_bar(book, offer, choice, tree, seen)
     if tree is not None or not is_let(book, offer, musts_of(offer, choice), machine):
         return False
     return not all_hold(offer.plan, [0], machine)

@@ -214,6 +214,20 @@ class Shown(unittest.TestCase):
         ]:
             self.assertIs(self.fewest(thing), False, thing)
 
+    def test_trees_that_are_alike(self):
+        """One tree may stand in many reasons; one that only equals it, with True for 1, is none."""
+        offered = [no(), less(size("int"), align("int")), yes()]
+        tree, bent = [("ask", "size int", "byte", c, LEAF, LEAF) for c in (1, True)]
+        self.assertEqual(tree, bent)
+        machines = {(): machine(0, 0), (2,): machine(1, 0)}
+        rows = [(choice, machines.get(choice), None if choice in machines else tree) for choice in choices(3)]
+        self.assertIs(shows_fewest(BOOK, no(), offered, ("none", tuple(rows))), True)
+        for at, (choice, _, told) in enumerate(rows):
+            if told is not None:
+                for other in (bent, ("ask", "size int", "byte", 1, LEAF), None):
+                    changed = rows[:at] + [(choice, None, other)] + rows[at + 1:]
+                    self.assertIs(shows_fewest(BOOK, no(), offered, ("none", tuple(changed))), False)
+
     def test_machines_need_not_be_least_and_trees_may_be_any(self):
         word, choice, least, tree, reasons = SOME
         great = ("ask", "size int", "byte", 3, tree, tree)
