@@ -1,7 +1,7 @@
 """Where the things in a part lie on one machine."""
 
 from anypads.errors import NoScale
-from anypads.parts import Byte, Kind, Overlay, Record, Row, need_path, need_resolved
+from anypads.parts import Byte, Kind, Overlay, Row, need_path, need_resolved
 
 
 class Layout:

@@ -8,7 +8,7 @@ from anypads.books import Book
 from anypads.claims import Claim, at_most, holds, less, no, no_gap, no_tail, same, told, yes
 from anypads.looker import is_tree, shows_always, shows_breaks, shows_least, shows_nothing
 from anypads.machines import Machine
-from anypads.parts import Byte, Kind, Record
+from anypads.parts import Kind, Record
 from anypads.terms import align, number, packed, place, size
 from anypads.trees import LEAF, ask, grafted
 from anypads.verdicts import decide
